@@ -1,0 +1,1 @@
+"""Commands sent ahead down one line."""

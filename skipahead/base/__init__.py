@@ -1,0 +1,1 @@
+"""Names, books and items."""

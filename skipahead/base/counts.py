@@ -1,0 +1,14 @@
+"""Numbers that count."""
+
+from skipahead.errors import InvalidNumber
+
+
+def is_count(value):
+    """Whether the value is an integer of at least 0."""
+    return isinstance(value, int) and not isinstance(value, bool) and value >= 0
+
+
+def need_count(many):
+    """Refuses what is not an integer of at least 0."""
+    if not is_count(many):
+        raise InvalidNumber(many)

@@ -1,0 +1,1 @@
+"""Tests of the package, through the interface that the document tells."""

@@ -1,0 +1,76 @@
+"""The files of the package, and where the interface is defined."""
+
+import ast
+import importlib
+import pathlib
+import unittest
+
+PACKAGE = pathlib.Path(__file__).resolve().parent.parent / "skipahead"
+
+FUNCTIONS = {
+    "skipahead.base.names": ("is_name", "is_answer"),
+}
+CLASSES = {
+    ("skipahead.base.books", "Book"): (
+        "__init__", "of", "commands", "takes", "answers", "outcomes", "without", "is_within", "__or__", "__getitem__",
+        "__contains__", "__iter__", "__len__", "__eq__", "__str__",
+    ),
+}
+
+
+def sources():
+    """The text of each file of the package."""
+    return {path: path.read_text(encoding="utf-8") for path in sorted(PACKAGE.rglob("*.py"))}
+
+
+class FilesTest(unittest.TestCase):
+    def test_the_folder_contains_nothing_else(self):
+        for path in PACKAGE.rglob("*"):
+            if "__pycache__" not in path.parts:
+                self.assertTrue(path.is_dir() or path.suffix == ".py", path)
+
+    def test_each_folder_has_its_own_file(self):
+        for path in [PACKAGE] + [path for path in PACKAGE.rglob("*") if path.is_dir()]:
+            self.assertTrue(path.name == "__pycache__" or (path / "__init__.py").is_file(), path)
+
+    def test_sizes_and_signs(self):
+        self.assertLessEqual(len(sources()), 100)
+        for path, text in sources().items():
+            self.assertLessEqual(text.count("\n"), 399, path)
+            self.assertTrue(all(sign == "\n" or " " <= sign <= "~" for sign in text), path)
+            for line in text.split("\n"):
+                self.assertLessEqual(len(line), 120, (path, line))
+
+    def test_functions_have_at_most_40_lines(self):
+        for path, text in sources().items():
+            for node in ast.walk(ast.parse(text)):
+                if isinstance(node, ast.FunctionDef):
+                    self.assertLessEqual(node.end_lineno - node.lineno + 1, 40, (path, node.name))
+
+    def test_imports_are_of_the_package_or_of_the_few_words_of_the_library(self):
+        library = ("heapq", "math", "itertools", "collections", "__future__")
+        for path, text in sources().items():
+            for node in ast.walk(ast.parse(text)):
+                if isinstance(node, ast.ImportFrom) and path.name != "__main__.py":
+                    self.assertEqual(node.level, 0, path)
+                    self.assertIn(node.module.split(".")[0], ("skipahead",) + library, path)
+                elif path.name != "__main__.py":
+                    self.assertNotIsInstance(node, ast.Import, path)
+
+
+class InterfaceTest(unittest.TestCase):
+    def test_functions_are_defined_in_the_files_that_list_them(self):
+        for module, names in FUNCTIONS.items():
+            for name in names:
+                self.assertEqual(getattr(importlib.import_module(module), name).__module__, module)
+
+    def test_methods_are_defined_in_the_classes_that_list_them(self):
+        for (module, name), methods in CLASSES.items():
+            kind = getattr(importlib.import_module(module), name)
+            self.assertEqual(kind.__module__, module)
+            for method in methods:
+                self.assertIn(method, vars(kind), name)
+
+
+if __name__ == "__main__":
+    unittest.main()
