@@ -9,11 +9,25 @@ PACKAGE = pathlib.Path(__file__).resolve().parent.parent / "skipahead"
 
 FUNCTIONS = {
     "skipahead.base.names": ("is_name", "is_answer"),
+    "skipahead.base.items": ("is_item", "is_items", "is_row"),
+    "skipahead.line.line": ("is_work", "sent"),
 }
 CLASSES = {
     ("skipahead.base.books", "Book"): (
         "__init__", "of", "commands", "takes", "answers", "outcomes", "without", "is_within", "__or__", "__getitem__",
         "__contains__", "__iter__", "__len__", "__eq__", "__str__",
+    ),
+    ("skipahead.line.line", "Line"): (
+        "__init__", "is_tried", "send", "__iadd__", "book", "sequence", "replies", "work", "tried", "kept", "deal",
+        "origin", "undo", "trial", "during", "twin", "__getitem__", "__len__", "__eq__", "__str__",
+    ),
+    ("skipahead.line.servers", "Server"): (
+        "__init__", "steady", "book", "states", "start", "table", "__call__", "outcome", "with_state", "__eq__",
+        "__len__", "__str__",
+    ),
+    ("skipahead.line.facts", "Facts"): (
+        "__init__", "of", "outcomes", "without", "__and__", "__or__", "is_within", "allows", "obeyed_by", "__eq__",
+        "__bool__", "__str__",
     ),
 }
 
