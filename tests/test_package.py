@@ -11,6 +11,12 @@ FUNCTIONS = {
     "skipahead.base.names": ("is_name", "is_answer"),
     "skipahead.base.items": ("is_item", "is_items", "is_row"),
     "skipahead.line.line": ("is_work", "sent"),
+    "skipahead.plain.programs": ("is_program",),
+    "skipahead.plain.runs": ("row_of", "behind", "is_row_of"),
+    "skipahead.plain.alike": ("are_alike", "alike_paper", "is_alike_paper", "first_pair", "pairs_behind"),
+    "skipahead.ahead.lists": (
+        "first_stand", "is_stand", "thing_at", "fates", "stand_behind", "is_right", "next_item", "forced_list",
+    ),
 }
 CLASSES = {
     ("skipahead.base.books", "Book"): (
@@ -28,6 +34,14 @@ CLASSES = {
     ("skipahead.line.facts", "Facts"): (
         "__init__", "of", "outcomes", "without", "__and__", "__or__", "is_within", "allows", "obeyed_by", "__eq__",
         "__bool__", "__str__",
+    ),
+    ("skipahead.plain.programs", "Program"): (
+        "__init__", "of", "book", "lines", "parameters", "registers", "commands", "following", "replaced", "renamed", "__add__",
+        "__getitem__", "__iter__", "__len__", "__contains__", "__eq__", "__str__",
+    ),
+    ("skipahead.plain.runs", "PlainRun"): (
+        "__init__", "go", "program", "server", "line", "work", "at", "last", "state", "result", "waits", "held", "undo", "trial",
+        "during", "twin", "__len__", "__eq__", "__str__",
     ),
 }
 

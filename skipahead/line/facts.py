@@ -133,3 +133,14 @@ def need_like(facts, other):
     """Refuses what is not facts with the book of these facts."""
     if not isinstance(other, Facts) or other._book != facts._book:
         raise InvalidOperation("not facts with an equal book")
+
+
+def need_facts(book, facts):
+    """Refuses what is neither None nor facts of an equal book."""
+    if facts is not None and (not isinstance(facts, Facts) or facts._book != book):
+        raise InvalidFacts("not facts of an equal book")
+
+
+def choices_of(book, facts):
+    """The outcomes that each command can have; None are no facts."""
+    return {command: book.outcomes(command) if facts is None else facts.outcomes(command) for command in book}

@@ -92,6 +92,11 @@ class Server:
         return f"server with {len(self._table)} states"
 
 
+def step_of(server, state, key):
+    """What the table of a server tells for a command, or for a kept deal, in a state."""
+    return server._table[state][key]
+
+
 def checked_table(book, table):
     """A new dict with what a table of the book tells, its keys ascending."""
     if not isinstance(table, dict) or not 1 <= len(table) <= MAX_STATES:

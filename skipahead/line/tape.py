@@ -3,6 +3,8 @@
 from skipahead.base.counts import is_count
 from skipahead.base.items import MARK
 
+KEPT = ("kept",)
+
 
 class Tape:
     """Items in order, with the answers to them and the work that they came to; it has no limit."""
@@ -55,7 +57,7 @@ class Tape:
     def _end_deal(self):
         deal, _, tried = self.levels[-1]
         if deal == "open":
-            self.entries.append(("kept",))
+            self.entries.append(KEPT)
         answer = "undone" if deal == "broken" else "kept"
         return self._note(MARK, answer, None, ("fresh", len(self.entries), tried))
 

@@ -1,0 +1,1 @@
+"""Lists that are forced, the waits behind them, and runs that send them."""
