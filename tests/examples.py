@@ -1,6 +1,8 @@
 """The values of the document behind [0.22] and in its examples, and values that the package returns."""
 
+from skipahead.ahead.forward import Forward
 from skipahead.ahead.lists import fates, first_stand
+from skipahead.ahead.waits import wait_paper
 from skipahead.base.books import Book
 from skipahead.errors import InvalidNumber
 from skipahead.line.facts import Facts
@@ -9,6 +11,8 @@ from skipahead.line.servers import Server
 from skipahead.plain.alike import alike_paper
 from skipahead.plain.programs import Program
 from skipahead.plain.runs import PlainRun
+from skipahead.send.judge import Guard, same_paper
+from skipahead.send.senders import Sender, SenderRun
 from tests.values import PLAIN
 
 BOOK = Book(look=(1, ("full", "room")), new=(0, ("ok",)), put=(2, ("ok",)))
@@ -24,6 +28,10 @@ ORDER = Program(
 CAREFUL = Program(
     BOOK, ("do", "new", (), "x"), ("mark",), ("if", "kept", 4), ("give", "no"), ("do", "look", ("x",), None), ("last",))
 LOOP = Program(BOOK, ("do", "new", (), None), ("mark",), ("go", 0))
+QUICK = Sender(
+    BOOK, ("send", "new", (), "x"), ("send", "put", ("x", "who"), None), ("mark",), ("send", "look", ("x",), None), ("read",), ("read",),
+    ("read",), ("read",), ("if", "full", 10), ("give", "room"), ("send", "new", (), None), ("mark",), ("give", "more"),
+    parameters=("who",))
 SERVER = Server(BOOK, TABLE, start="a")
 SURE = Facts(BOOK, new=("ok",))
 ITEMS = (NEW, ("send", "put", (0, "who")), MARK, ("send", "look", (0,)))
@@ -37,7 +45,9 @@ def own_values():
         Server(BOOK, TABLE, start="a"), Facts(BOOK), Facts(BOOK, new=("ok",)), InvalidNumber(1), TABLE,
         ORDER, iter(ORDER), ORDER.lines, PlainRun(ORDER, SERVER), PlainRun(CAREFUL, ("ok",)), first_stand(ORDER),
         alike_paper(ORDER, ORDER), alike_paper(ORDER, ORDER.replaced(8, ("last",))),
-        fates(ORDER, first_stand(ORDER), ()),
+        fates(ORDER, first_stand(ORDER), ()), Forward(ORDER, SERVER), Forward(CAREFUL, ("ok",)), wait_paper(ORDER, first_stand(ORDER), window=9),
+        QUICK, iter(QUICK), QUICK.lines, SenderRun(QUICK, SERVER), SenderRun(QUICK, ()), same_paper(ORDER, QUICK),
+        same_paper(ORDER, QUICK, window=3), Guard(),
     )
 
 

@@ -17,6 +17,9 @@ FUNCTIONS = {
     "skipahead.ahead.lists": (
         "first_stand", "is_stand", "thing_at", "fates", "stand_behind", "is_right", "next_item", "forced_list",
     ),
+    "skipahead.ahead.waits": ("wait_paper", "is_wait_paper", "do_agree", "needs_wait"),
+    "skipahead.send.senders": ("sender_behind", "is_sender"),
+    "skipahead.send.judge": ("does_same", "same_paper", "is_same_paper"),
 }
 CLASSES = {
     ("skipahead.base.books", "Book"): (
@@ -43,6 +46,20 @@ CLASSES = {
         "__init__", "go", "program", "server", "line", "work", "at", "last", "state", "result", "waits", "held", "undo", "trial",
         "during", "twin", "__len__", "__eq__", "__str__",
     ),
+    ("skipahead.ahead.forward", "Forward"): (
+        "__init__", "go", "program", "server", "window", "facts", "line", "work", "stand", "pending", "paper", "state", "result", "waits",
+        "progress", "undo", "trial", "during", "twin", "__len__", "__eq__", "__str__",
+    ),
+    ("skipahead.send.senders", "Sender"): (
+        "__init__", "of", "plain", "book", "lines", "parameters", "registers", "commands", "following", "replaced", "renamed",
+        "__getitem__", "__iter__", "__len__", "__contains__", "__eq__", "__str__",
+    ),
+    ("skipahead.send.senders", "SenderRun"): (
+        "__init__", "go", "sender", "server", "window", "line", "work", "at", "last", "unread", "state", "result", "reason", "waits",
+        "progress", "held", "undo", "trial", "during", "twin", "__len__", "__eq__", "__str__",
+    ),
+    ("skipahead.send.judge", "Guard"): ("check",),
+    ("skipahead.send.judge", "GuardedRun"): ("__init__", "paper", "twin"),
 }
 
 

@@ -4,9 +4,9 @@ from skipahead.errors import TooMany
 
 
 def reached(space, first, most):
-    """All that can be reached from the first one, those with the fewest outcomes first.
+    """All that can be reached from the first one, each with a shortest row, shorter and lesser rows first.
 
-    The space tells the steps of each as pairs (outcome, reached), where the outcome of a step without one is None.
+    The space tells the steps of each as pairs (outcome, reached), with ascending outcomes, or None if a step has none.
     The dict that is returned tells from where each was reached, and with what outcome. TooMany for more than so many.
     """
     found = {}
@@ -14,18 +14,20 @@ def reached(space, first, most):
     while layer:
         # What needs one outcome more has to wait until nothing else is reached without it.
         further = []
-        while layer:
-            state, before, outcome = layer.pop()
-            if state in found:
-                continue
-            if len(found) == most:
-                raise TooMany(most)
-            found[state] = (before, outcome)
-            for told, behind in space.steps(state):
-                if told is None:
-                    layer.append((behind, state, None))
-                else:
-                    further.append((behind, state, told))
+        for start in layer:
+            ahead = [start]
+            while ahead:
+                state, before, outcome = ahead.pop()
+                if state in found:
+                    continue
+                if len(found) == most:
+                    raise TooMany(most)
+                found[state] = (before, outcome)
+                for told, behind in space.steps(state):
+                    if told is None:
+                        ahead.append((behind, state, None))
+                    else:
+                        further.append((behind, state, told))
         layer = further
     return found
 
