@@ -16,7 +16,7 @@ CALLED = {
     "False", "None",
 }
 BUILTIN_CALLS = {
-    "append", "clear", "copy", "count", "endswith", "extend", "find", "get", "index", "insert", "isalpha", "isdigit", "items",
+    "append", "clear", "copy", "count", "endswith", "extend", "find", "get", "index", "insert", "isalpha", "isascii", "isdigit", "islower", "items",
     "join", "keys", "pop", "remove", "replace", "setdefault", "split", "startswith", "strip", "update", "values", "__init__",
 }
 BARRED = (ast.GeneratorExp, ast.Global, ast.AsyncFunctionDef, ast.AnnAssign, ast.NamedExpr, ast.SetComp, ast.Try)

@@ -1,7 +1,7 @@
 """Books: the commands that a server knows."""
 
 from skipahead.base.counts import is_count
-from skipahead.base.names import is_answer, is_names
+from skipahead.base.names import RESERVED, is_answer, is_names
 from skipahead.errors import InvalidBook, InvalidOperation, UnknownName
 
 MAX_COMMANDS = 6
@@ -14,6 +14,7 @@ class Book:
 
     def __init__(self, **commands):
         self._pairs = checked_pairs(commands)
+        self._outcomes = outcomes_in(self._pairs)
 
     @classmethod
     def of(cls, commands):
@@ -35,7 +36,9 @@ class Book:
 
     def outcomes(self, command):
         """The ascending tuple of the outcomes of a command."""
-        return tuple(sorted(self[command][1] + ("failed",)))
+        if command not in self:
+            raise UnknownName(command)
+        return self._outcomes[command]
 
     def without(self, command):
         """The book that lacks a command."""
@@ -88,7 +91,23 @@ def book_with(pairs):
     # A command may be called self, and cannot be passed by keyword then; so the pairs go in behind the call.
     book = Book(only=(0, ("ok",)))
     book._pairs = pairs
+    book._outcomes = outcomes_in(pairs)
     return book
+
+
+def outcomes_in(pairs):
+    """The ascending tuples of the outcomes of the commands with these pairs."""
+    return {command: tuple(sorted(pairs[command][1] + ("failed",))) for command in pairs}
+
+
+def outcomes_of(book):
+    """The dict of the outcomes of each command of a book, which is not to be changed."""
+    return book._outcomes
+
+
+def pairs_of(book):
+    """The dict of the pairs of each command of a book, which is not to be changed."""
+    return book._pairs
 
 
 def checked_pairs(commands):
@@ -110,7 +129,9 @@ def is_pair(value):
     takes, answers = value
     if not is_count(takes) or takes > MAX_TAKES:
         return False
-    return is_names(answers) and 1 <= len(answers) <= MAX_ANSWERS and all([is_answer(name) for name in answers])
+    if not is_names(answers) or not 1 <= len(answers) <= MAX_ANSWERS:
+        return False
+    return not any([name in RESERVED for name in answers])
 
 
 def need_book(book):

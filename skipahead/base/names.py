@@ -8,7 +8,7 @@ def is_name(value):
     """Whether the value is a name."""
     if not isinstance(value, str) or not 1 <= len(value) <= MAX_LETTERS:
         return False
-    return all(["a" <= sign <= "z" for sign in value])
+    return value.isascii() and value.isalpha() and value.islower()
 
 
 def is_answer(value):
@@ -18,6 +18,11 @@ def is_answer(value):
 
 def is_names(value):
     """Whether the value is an ascending tuple of names."""
-    if not isinstance(value, tuple) or not all([is_name(name) for name in value]):
+    if not isinstance(value, tuple):
         return False
-    return value == tuple(sorted(set(value)))
+    last = ""
+    for name in value:
+        if not is_name(name) or name <= last:
+            return False
+        last = name
+    return True

@@ -1,10 +1,10 @@
 """Facts: what outcomes the commands of a book can have."""
 
-from skipahead.base.books import need_book
-from skipahead.base.names import is_names
+from skipahead.base.books import need_book, outcomes_of
 from skipahead.errors import InvalidFacts, InvalidOperation, InvalidServer, UnknownName
 from skipahead.line.line import is_work
 from skipahead.line.servers import Server
+from skipahead.line.tape import KEPT
 
 
 class Facts:
@@ -46,7 +46,7 @@ class Facts:
         """Whether a work has no outcomes but those that are left."""
         if not is_work(self._book, work):
             raise InvalidOperation("not a work of the book")
-        return all([entry[2] in self._left[entry[0]] for entry in work if entry != ("kept",)])
+        return all([entry[2] in self._left[entry[0]] for entry in work if entry != KEPT])
 
     def obeyed_by(self, server):
         """Whether a server gives in none of its states an outcome that is not left."""
@@ -58,8 +58,9 @@ class Facts:
     def __and__(self, other):
         need_like(self, other)
         left = {command: shared(self._left[command], other._left[command]) for command in self._left}
-        if not all([has_answer(left[command]) for command in left]):
-            raise InvalidOperation("a command would have no answer left")
+        for command in left:
+            if not has_answer(left[command]):
+                raise InvalidOperation(f"the command {command} would have no answer left")
         return facts_with(self._book, left)
 
     def __or__(self, other):
@@ -73,10 +74,11 @@ class Facts:
         return self._book == other._book and self._left == other._left
 
     def __bool__(self):
-        return any([self._left[command] != self._book.outcomes(command) for command in self._left])
+        return bool(self._left != outcomes_of(self._book))
 
     def __str__(self):
-        lacking = [command for command in self._left if self._left[command] != self._book.outcomes(command)]
+        choices = outcomes_of(self._book)
+        lacking = [command for command in choices if self._left[command] != choices[command]]
         if not lacking:
             return "no facts"
         return "; ".join([told(command, self._left[command]) for command in lacking])
@@ -93,29 +95,31 @@ def checked_outcomes(book, outcomes):
     """What facts with these outcomes leave each command of the book."""
     if not isinstance(outcomes, dict):
         raise InvalidFacts("facts have a dict of outcomes")
+    left = dict(outcomes_of(book))
     for command in outcomes:
-        if command not in book:
+        if command not in left:
             raise InvalidFacts(f"not a command of the book: {command!r}")
-        if not can_be_left(book, command, outcomes[command]):
+        if not can_be_left(left[command], outcomes[command]):
             raise InvalidFacts(f"not what facts can leave of the command {command}: {outcomes[command]!r}")
-    return {command: outcomes.get(command, book.outcomes(command)) for command in book}
+        left[command] = outcomes[command]
+    return left
 
 
-def can_be_left(book, command, value):
-    """Whether the value is an ascending tuple of outcomes of the command, at least one answer among them."""
-    if not is_names(value) or not has_answer(value):
-        return False
-    return all([outcome in book.outcomes(command) for outcome in value])
+def can_be_left(choices, value):
+    """Whether the value is an ascending tuple of these outcomes, at least one answer among them."""
+    if value == choices:
+        return True
+    return isinstance(value, tuple) and value == shared(choices, value) and has_answer(value)
 
 
 def has_answer(outcomes):
-    """Whether some of the outcomes of a command is an answer."""
-    return any([outcome != "failed" for outcome in outcomes])
+    """Whether some of these different outcomes is an answer."""
+    return outcomes != () and outcomes != ("failed",)
 
 
 def shared(one, other):
     """The outcomes that stand in both tuples."""
-    return tuple([outcome for outcome in one if outcome in other])
+    return one if one == other else tuple([outcome for outcome in one if outcome in other])
 
 
 def joined(one, other):
@@ -143,4 +147,4 @@ def need_facts(book, facts):
 
 def choices_of(book, facts):
     """The outcomes that each command can have; None are no facts."""
-    return {command: book.outcomes(command) if facts is None else facts.outcomes(command) for command in book}
+    return dict(outcomes_of(book)) if facts is None else dict(facts._left)

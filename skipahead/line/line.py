@@ -1,11 +1,11 @@
 """The line: what is sent down it, and the work that this comes to."""
 
-from skipahead.base.books import need_book
+from skipahead.base.books import need_book, pairs_of
 from skipahead.base.counts import is_count, need_count
 from skipahead.base.items import can_stand, is_argument, is_behind, is_item, is_items, is_row
 from skipahead.base.names import is_name
 from skipahead.errors import InvalidItem, InvalidNumber, InvalidOperation, InvalidRow, NothingToUndo, TooMany
-from skipahead.line.tape import Tape
+from skipahead.line.tape import KEPT, Tape
 from skipahead.line.trials import Trial
 
 MAX_ITEMS = 2000
@@ -152,34 +152,43 @@ def is_work(book, value):
     need_book(book)
     if not isinstance(value, tuple):
         return False
+    pairs = pairs_of(book)
     done = []
     can_keep = False
     for entry in value:
-        if entry == ("kept",):
+        if entry == KEPT:
             if not can_keep:
                 return False
             can_keep = False
         else:
-            if not is_entry(book, entry, done):
+            if not is_entry(pairs, entry, done):
                 return False
             can_keep = entry[2] != "failed"
             done.append(can_keep)
     return True
 
 
-def is_entry(book, value, done):
+def is_entry(pairs, value, done):
     """Whether the value is an entry of a tried command, where done tells of each earlier one whether it was done."""
-    if not isinstance(value, tuple) or len(value) != 3 or value[0] not in book:
+    if not isinstance(value, tuple) or len(value) != 3:
         return False
     command, origins, outcome = value
-    if not isinstance(origins, tuple) or len(origins) != book.takes(command):
+    if not isinstance(command, str) or command not in pairs:
         return False
-    return outcome in book.outcomes(command) and all([is_origin(origin, done) for origin in origins])
+    takes, answers = pairs[command]
+    if not isinstance(origins, tuple) or len(origins) != takes:
+        return False
+    for origin in origins:
+        if origin is not None and not is_origin(origin, done):
+            return False
+    return outcome == "failed" or outcome in answers
 
 
 def is_origin(value, done):
     """Whether the value is an origin, where done tells of each earlier tried command whether it was done."""
-    return value is None or is_name(value) or (is_count(value) and value < len(done) and done[value])
+    if isinstance(value, str):
+        return is_name(value)
+    return value is None or (is_count(value) and value < len(done) and done[value])
 
 
 def sent(book, items, row):

@@ -1,6 +1,6 @@
 """Servers that are tables."""
 
-from skipahead.base.books import need_book
+from skipahead.base.books import need_book, outcomes_of
 from skipahead.base.names import is_name
 from skipahead.errors import InvalidOperation, InvalidServer, UnknownName
 from skipahead.line.line import is_work
@@ -101,33 +101,31 @@ def checked_table(book, table):
     """A new dict with what a table of the book tells, its keys ascending."""
     if not isinstance(table, dict) or not 1 <= len(table) <= MAX_STATES:
         raise InvalidServer(f"a table is a dict of one to {MAX_STATES} states")
+    choices = outcomes_of(book)
     for state in table:
         if not is_name(state):
             raise InvalidServer(f"not the name of a state: {state!r}")
-        if not are_entries(book, table, table[state]):
+        if not are_entries(choices, table, table[state]):
             raise InvalidServer(f"not what a server does in the state {state}: {table[state]!r}")
-    return {state: ascending(table[state]) for state in sorted(table)}
+    keys = sorted([*choices, "kept"])
+    return {state: {key: table[state][key] for key in keys} for state in sorted(table)}
 
 
-def ascending(entries):
-    """A new dict with the same keys, ascending."""
-    return {key: entries[key] for key in sorted(entries)}
-
-
-def are_entries(book, table, value):
-    """Whether the value tells what a server with this table does in one state."""
-    if not isinstance(value, dict) or len(value) != len(book) + 1:
+def are_entries(choices, table, value):
+    """Whether the value tells what a server with this table does in one state, where commands have these outcomes."""
+    if not isinstance(value, dict) or len(value) != len(choices) + 1:
         return False
-    if not all([command in value and is_step(book, table, command, value[command]) for command in book]):
-        return False
+    for command in choices:
+        if command not in value or not is_step(choices[command], table, value[command]):
+            return False
     return "kept" in value and is_state(table, value["kept"])
 
 
-def is_step(book, table, command, value):
-    """Whether the value is a pair of an outcome of the command and a state of the table."""
+def is_step(outcomes, table, value):
+    """Whether the value is a pair of one of these outcomes and a state of the table."""
     if not isinstance(value, tuple) or len(value) != 2:
         return False
-    return value[0] in book.outcomes(command) and is_state(table, value[1])
+    return value[0] in outcomes and isinstance(value[1], str) and value[1] in table
 
 
 def is_state(table, value):
