@@ -4,7 +4,6 @@ import unittest
 
 from skipahead.ahead.forward import Forward
 from skipahead.ahead.lists import forced_list
-from skipahead.base.books import Book
 from skipahead.errors import (
     InvalidFacts, InvalidNumber, InvalidOperation, InvalidProgram, InvalidRow, InvalidServer, NothingToUndo, TooMany,
 )

@@ -16,7 +16,7 @@ from skipahead.send.senders import Sender, SenderRun, sender_behind
 from tests.examples import BOOK, CAREFUL, LOOP, MARK, ORDER, QUICK, SERVER, SURE, VALUES
 from tests.making import random_facts, random_program, seeded
 from tests.making_senders import random_sender
-from tests.oracle import BadRow, KEPT, rows, walk_with
+from tests.oracle import KEPT, BadRow, rows, walk_with
 from tests.oracle_runs import SenderModel
 from tests.test_alike import deals
 from tests.test_runs import TINY

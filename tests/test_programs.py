@@ -298,7 +298,7 @@ class ChangingTest(Case):
         made = one + other
         self.same(made.lines, one.lines + (MARK, DO, ("if", "ok", 7), ("go", 3)))
         self.same((len(one), len(other)), (3, 4))
-        self.assertEqual(one + one + one, Program(BOOK, *one.lines, *(one + one).lines[:0], DO, ("if", "ok", 6), MARK, DO, ("if", "ok", 9), MARK))
+        self.assertEqual(one + one + one, Program(BOOK, *one.lines, DO, ("if", "ok", 6), MARK, DO, ("if", "ok", 9), MARK))
         same = one
         same += other
         self.assertEqual((same, one.lines), (made, (DO, ("if", "ok", 3), MARK)))

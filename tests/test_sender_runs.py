@@ -2,16 +2,14 @@
 
 import unittest
 
-from skipahead.base.books import Book
 from skipahead.errors import (
     InvalidNumber, InvalidRow, InvalidSender, InvalidServer, NothingToUndo, TooMany, UnknownName,
 )
 from skipahead.line.line import Line
 from skipahead.line.servers import Server
-from skipahead.plain.programs import Program
 from skipahead.plain.runs import PlainRun, behind
 from skipahead.send.senders import Sender, SenderRun, sender_behind
-from tests.examples import BOOK, CAREFUL, LOOP, MARK, NEW, ORDER, QUICK, SERVER, TABLE, VALUES, numbers
+from tests.examples import BOOK, CAREFUL, MARK, ORDER, QUICK, SERVER, TABLE, VALUES, numbers
 from tests.making import random_program, seeded
 from tests.making_senders import random_sender
 from tests.oracle import BadRow, rows
@@ -358,9 +356,6 @@ class UndoTest(Case):
         line.send(MARK)
         self.same((len(run.line), run.unread), (4, 4))
         self.assertEqual((run.sender, run.server, run.window), (QUICK, SERVER, 16))
-        self.same(SenderRun(Sender(BOOK, ("send", "new", (), "x")), STEADY).line.sequence, (NEW,))
-        self.same(len(SenderRun(Sender.plain(LOOP), STEADY)), 0)
-        self.assertEqual(Program(BOOK, ("last",)), Program(Book.of({name: BOOK[name] for name in BOOK}), ("last",)))
 
 
 if __name__ == "__main__":

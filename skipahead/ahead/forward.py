@@ -1,7 +1,6 @@
 """Forward runs, which send ahead as far as a program means it."""
 
 from skipahead.ahead.journey import Journey, Plans
-from skipahead.base.books import Book
 from skipahead.base.counts import need_count, need_window
 from skipahead.errors import InvalidOperation, NothingToUndo
 from skipahead.line.facts import choices_of, need_facts
@@ -124,7 +123,7 @@ class Forward:
     def twin(self):
         """An independent run that has come as far."""
         # A new run works out its first list; that of a run which ends at once costs nothing.
-        run = Forward(Program(Book(only=(0, ("ok",))), ("last",)), ())
+        run = Forward(Program(self._program.book, ("last",)), ())
         run._program = self._program
         run._server = self._server
         run._window = self._window

@@ -8,7 +8,7 @@ from skipahead.line.tape import KEPT
 from skipahead.plain.programs import Program, need_program
 from skipahead.plain.runs import behind
 from skipahead.send.sames import Sames, is_same_state
-from skipahead.send.senders import Sender, SenderRun, sender_behind
+from skipahead.send.senders import Sender, SenderRun, come_as_far, sender_behind
 
 MAX_SAME_STATES = 3000
 
@@ -86,11 +86,7 @@ class GuardedRun(SenderRun, Guard):
         book = self._sender.book
         run = GuardedRun(Program(book, ("last",)), Sender(book, ("last",)), ())
         run._paper = self._paper
-        run._sender = self._sender
-        run._server = self._server
-        run._window = self._window
-        run._now = self._now.copied()
-        return run
+        return come_as_far(run, self)
 
 
 def need_like(program, sender, window, facts):

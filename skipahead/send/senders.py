@@ -243,10 +243,7 @@ class SenderRun:
 
     def twin(self):
         """An independent run that has come as far."""
-        run = SenderRun(self._sender, (), window=self._window)
-        run._server = self._server
-        run._now = self._now.copied()
-        return run
+        return come_as_far(SenderRun(Sender(self._sender.book, ("last",)), ()), self)
 
     def __len__(self):
         return len(self._now.rests)
@@ -260,6 +257,15 @@ class SenderRun:
 
     def __str__(self):
         return f"sender run at line {self._now.here} behind {len(self._now.rests)} waits, {self._now.phase}"
+
+
+def come_as_far(run, other):
+    """Gives a new run all that another one has, so that both go on independently, and returns it."""
+    run._sender = other._sender
+    run._server = other._server
+    run._window = other._window
+    run._now = other._now.copied()
+    return run
 
 
 def sender_behind(sender, row, *, window=16):
