@@ -33,6 +33,12 @@ QUICK = Sender(
     ("read",), ("read",), ("if", "full", 10), ("give", "room"), ("send", "new", (), None), ("mark",), ("give", "more"),
     parameters=("who",))
 SERVER = Server(BOOK, TABLE, start="a")
+# In each state another outcome or another state, also behind a kept deal.
+TURNING = Server(BOOK, {
+    "a": {"look": ("full", "b"), "new": ("ok", "a"), "put": ("ok", "b"), "kept": "c"},
+    "b": {"look": ("room", "a"), "new": ("failed", "c"), "put": ("ok", "a"), "kept": "a"},
+    "c": {"look": ("full", "c"), "new": ("ok", "b"), "put": ("failed", "a"), "kept": "b"},
+}, start="a")
 SURE = Facts(BOOK, new=("ok",))
 ITEMS = (NEW, ("send", "put", (0, "who")), MARK, ("send", "look", (0,)))
 

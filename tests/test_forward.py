@@ -12,7 +12,7 @@ from skipahead.line.line import Line
 from skipahead.line.servers import Server
 from skipahead.plain.programs import Program
 from skipahead.plain.runs import PlainRun, behind
-from tests.examples import BOOK, CAREFUL, LOOP, MARK, NEW, ORDER, SERVER, SURE, TABLE, VALUES, numbers
+from tests.examples import BOOK, CAREFUL, LOOP, MARK, NEW, ORDER, SERVER, SURE, TABLE, TURNING, VALUES, numbers
 from tests.making import random_facts, random_program, seeded
 from tests.oracle import BadRow, rows
 from tests.oracle_runs import ForwardModel
@@ -110,6 +110,20 @@ class StepsTest(Case):
                     else:
                         self.same((run.state, run.work), ("paused", work[:len(run.work)]))
         self.assertGreater(ended, 200)
+
+    def test_the_states_of_a_server(self):
+        for made in (ORDER, CAREFUL, Program(BOOK, DO, MARK, ("if", "kept", 4), ("do", "look", ("x",), None), ("do", "new", (), "x"), MARK,
+                                             ("do", "look", ("x",), None), MARK, ("do", "put", ("x", "x"), None), MARK, ("last",))):
+            plain = PlainRun(made, TURNING)
+            plain.go(many=99)
+            for window in (1, 2, 16):
+                run = Forward(made, TURNING, window=window)
+                run.go(many=99)
+                self.same((run.state, run.work, run.result), ("ended", plain.work, plain.result))
+                waits = run.waits
+                for many in range(waits + 1):
+                    run.undo(many=many)
+                    self.same((run.go(many=99), run.work), ("ended", plain.work))
 
     def test_a_greater_window_is_never_behind(self):
         for seed in range(60):

@@ -188,6 +188,18 @@ class SameTest(Case):
         paper = ("unlike", ("failed",))
         self.assertIs(is_same_paper(first, wrong, paper), True)
 
+    def test_just_three_thousand_states(self):
+        made = Program(BOOK, *[("do", "look", ("p",), None)] * 3, ("give", "a"), parameters=("p",))
+
+        def made_sender(many):
+            """A sender whose state at a line behind its third item can be one of fifteen."""
+            lines = [("copy", "x", "x")] * many + [("send", "look", ("p",), None)] * 3 + [("copy", "x", "x")] * 198 + [("give", "a")]
+            return sender(*lines, parameters=("p",))
+        self.same(len(same_paper(made, made_sender(0))[1]), 11 + 15 * 199)
+        self.same(len(same_paper(made, made_sender(4))[1]), 3000)
+        self.keeps(TooMany, "limit", 3000, same_paper, made, made_sender(5))
+        self.assertIs(does_same(made, made_sender(5), facts=Facts(BOOK, look=("full",))), True)
+
     def test_many_same_states(self):
         # As many states as there are lines that go on silently.
         made = Program(BOOK, ("give", "a"))

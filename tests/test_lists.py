@@ -181,12 +181,46 @@ class ForcedTest(Case):
                        ("do", "look", ("y",), None), ("last",), ("do", "look", ("y",), None))
         self.same(forced_list(made, first_stand(made), window=9), (NEW, MARK, NEW, MARK, ("send", "look", (2,))))
 
+    def test_two_values_or_a_value_and_nothing(self):
+        news = (("do", "new", (), "x"), ("do", "new", (), "y"), ("do", "look", ("p",), None), ("if", "full", 5))
+        ends = (("do", "look", ("y",), None), ("last",), ("do", "look", ("x",), None))
+        head = (NEW, NEW, ("send", "look", ("p",)))
+        sure = Facts(BOOK, new=("ok",), look=("full", "room"))
+        # The first value behind one answer, the second one behind the other.
+        made = Program(BOOK, *news[:3], ("if", "full", 6), *ends, parameters=("p",))
+        self.same(forced_list(made, first_stand(made), window=9, facts=sure), head)
+        # The first value, or nothing although the first command was done.
+        made = Program(BOOK, *news[:1], DO, news[2], ("if", "full", 6), *ends, parameters=("p",))
+        self.same(forced_list(made, first_stand(made), window=9, facts=sure), head)
+        self.assertIs(is_right(made, first_stand(made), head + (LOOK,), facts=sure), False)
+        # The first value on both ways.
+        made = Program(BOOK, *news[:3], ("if", "full", 6), ("do", "look", ("x",), None), *ends[1:], parameters=("p",))
+        self.same(forced_list(made, first_stand(made), window=9, facts=sure), head + (LOOK,))
+
     def test_facts_let_it_go_further(self):
         self.same(forced_list(CAREFUL, first_stand(CAREFUL), window=9), (NEW, MARK))
         self.same(forced_list(CAREFUL, first_stand(CAREFUL), window=9, facts=Facts(BOOK)), (NEW, MARK))
         self.same(forced_list(CAREFUL, first_stand(CAREFUL), window=9, facts=SURE), (NEW, MARK, LOOK))
         self.same(len(forced_list(ORDER, START, window=16, facts=Facts(BOOK, look=("full", "room")))), 4)
         self.same(len(forced_list(ORDER, START, window=16, facts=Facts(BOOK, look=("full",)))), 6)
+
+    def test_just_three_thousand_fates(self):
+        book = Book(a=(0, ("x", "y")), b=(0, ("x", "y")), c=(0, ("x", "y", "z")), d=(0, ("x", "y", "z")))
+        five = (("do", "a", (), None), ("do", "b", (), None), MARK)
+        made = Program(book, *five * 3, *[("do", command, (), None) for command in "cbdb"])
+        facts = Facts(book, b=("x", "y"), c=("x", "y", "z"))
+        items = forced_list(made, first_stand(made), window=12, facts=facts)
+        self.same(len(list(fates(made, first_stand(made), items, facts=facts))), 3000)
+        self.assertIs(is_right(made, first_stand(made), items, facts=facts), True)
+        self.keeps(TooMany, "limit", 3000, lambda: forced_list(made, first_stand(made), window=13, facts=facts))
+        self.keeps(TooMany, "limit", 3000, lambda: is_right(made, first_stand(made), items + (("send", "b", ()),), facts=facts))
+
+    def test_fates_of_a_broken_deal(self):
+        made = Program(WIDE, ("do", "b", (), None), MARK, *[("do", "b", (), None)] * 11)
+        items = forced_list(made, (1, (), "broken"), window=12, facts=Facts(WIDE, b=("x", "y")))
+        self.same((len(items), items[0]), (12, MARK))
+        self.same(len(list(fates(made, (1, (), "broken"), items, facts=Facts(WIDE, b=("x", "y"))))), 2048)
+        self.same(list(fates(made, (1, (), "broken"), items[:2])), [("undone", "failed"), ("undone", "x"), ("undone", "y"), ("undone", "z")])
 
     def test_three_thousand_fates_and_more(self):
         stand = first_stand(LONG)

@@ -82,7 +82,7 @@ class MakingTest(Case):
 
     def test_words_that_are_none_of_a_program(self):
         for line in (("send", "new", (), None), ("read",), ("copy", "x", "y"), ("copy", "x", None), ("give",), ("if", "ok"), ("go",),
-                     ("mark", None), ("last", None), ("give", None), ("do", "new", ()), ["mark"], "mark", ("do", "new", [], None),
+                     ("mark", None), ("last", None), ("go", 1, None), ("go", 1, None, None), ("give", "a", None, None), ("give", None), ("do", "new", ()), ["mark"], "mark", ("do", "new", [], None),
                      ("do", "new", (None,), None), ("do", "look", (None,), None), ("do", "look", (0,), None), (), ("DO", "new", (), None)):
             self.no(line)
             self.no(DO, line, MARK)

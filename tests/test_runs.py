@@ -11,7 +11,7 @@ from skipahead.line.servers import Server
 from skipahead.plain import runs
 from skipahead.plain.programs import Program
 from skipahead.plain.runs import PlainRun, behind, is_row_of, row_of
-from tests.examples import BOOK, CAREFUL, LOOP, MARK, NEW, ORDER, SERVER, TABLE, VALUES, numbers
+from tests.examples import BOOK, CAREFUL, LOOP, MARK, NEW, ORDER, SERVER, TABLE, TURNING, VALUES, numbers
 from tests.making import random_program, seeded
 from tests.oracle import KEPT, Walk, rows, walk_with
 from tests.values import Case
@@ -129,6 +129,37 @@ class StepsTest(Case):
                     value, tried = tried, tried + (outcome is not None)
                     walk.step(outcome, value)
                     run.go()
+
+    def test_the_states_of_a_server(self):
+        # Behind a kept deal in which something was tried it goes on in another state, but not behind other marks.
+        made = Program(BOOK, MARK, DO, MARK, MARK, DO, DO, DO, MARK, DO, ("do", "look", ("x",), None), MARK, ("do", "look", ("x",), None), MARK, MARK,
+                       ("do", "look", ("x",), None))
+        run = PlainRun(made, TURNING)
+        run.go(many=99)
+        state, replies = "a", []
+        deal = "fresh"
+        for item in run.line.sequence:
+            if item == MARK:
+                state = TURNING.table[state]["kept"] if deal == "open" else state
+                replies.append("undone" if deal == "broken" else "kept")
+                deal = "fresh"
+            elif deal == "broken":
+                replies.append("skipped")
+            else:
+                outcome, state = TURNING.table[state][item[1]]
+                replies.append(outcome)
+                deal = "broken" if outcome == "failed" else "open"
+        self.same(run.line.replies, tuple(replies))
+        self.assertTrue({"ok", "failed", "kept", "undone", "skipped"} <= set(replies))
+        row = tuple(entry[2] for entry in run.work if entry != KEPT)
+        self.same((row_of(made, TURNING, 99), row_of(made, TURNING, 3)), (row, row[:3]))
+        self.same(TURNING(run.work), state)
+        self.same(behind(made, row), (run.work, ("end", None)))
+        for many in range(len(run) + 1):
+            twin = run.twin()
+            twin.undo(many=many)
+            twin.go(many=many)
+            self.same(told(twin), told(run))
 
     def test_many_items_at_once(self):
         for seed in range(40):

@@ -7,9 +7,10 @@ from skipahead.errors import (
 )
 from skipahead.line.line import Line
 from skipahead.line.servers import Server
+from skipahead.plain.programs import Program
 from skipahead.plain.runs import PlainRun, behind
 from skipahead.send.senders import Sender, SenderRun, sender_behind
-from tests.examples import BOOK, CAREFUL, MARK, ORDER, QUICK, SERVER, TABLE, VALUES, numbers
+from tests.examples import BOOK, CAREFUL, MARK, ORDER, QUICK, SERVER, TABLE, TURNING, VALUES, numbers
 from tests.making import random_program, seeded
 from tests.making_senders import random_sender
 from tests.oracle import BadRow, rows
@@ -17,6 +18,7 @@ from tests.oracle_runs import SenderModel
 from tests.test_runs import TINY
 from tests.values import Case
 
+DO = ("do", "new", (), None)
 SEND = ("send", "new", (), None)
 READ = ("read",)
 STEADY = Server.steady(BOOK, {"look": "room", "new": "ok", "put": "ok"})
@@ -198,6 +200,17 @@ class StepsTest(Case):
             run.go()
             plain.go()
         self.same((run.state, run.result, run.line == plain.line, run.waits), ("ended", "more", True, 6))
+
+
+    def test_the_states_of_a_server(self):
+        for made in (ORDER, CAREFUL, Program(BOOK, DO, MARK, ("if", "kept", 4), ("do", "look", ("x",), None), ("do", "new", (), "x"), MARK,
+                                             ("do", "look", ("x",), None), MARK, ("do", "put", ("x", "x"), None), MARK, ("last",))):
+            plain, run = PlainRun(made, TURNING), SenderRun(Sender.plain(made), TURNING)
+            plain.go(many=99)
+            for many in (99, 1, 2, 3, 99):
+                run.go(many=99)
+                self.same((run.state, run.work, run.result, run.line == plain.line), ("ended", plain.work, plain.result, True))
+                run.undo(many=min(many, run.waits))
 
 
 class RefusedTest(Case):

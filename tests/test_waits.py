@@ -91,6 +91,20 @@ class PaperTest(Case):
                     self.same(min(forks), paper)
                     self.assertEqual({(one, other) for _, one, other in forks}, {(one, other) for _, other, one in forks})
 
+    def test_a_fork_of_a_value_and_nothing(self):
+        # Nothing is held behind "room"; but an index tells nothing only where the first command was not done.
+        made = Program(BOOK, ("do", "new", (), "x"), MARK, ("do", "look", ("p",), None), ("if", "full", 6), ("do", "look", ("y",), None),
+                       ("last",), ("do", "look", ("x",), None), parameters=("p",))
+        start = first_stand(made)
+        fork = ("fork", ("ok", "kept", "full"), ("ok", "kept", "room"))
+        self.same(wait_paper(made, start, window=9), fork)
+        items = forced_list(made, start, window=9)
+        for one, other, agree in ((("failed", "undone", "full"), fork[1], True), (("failed", "undone", "full"), fork[2], True),
+                                  (("failed", "undone", "room"), fork[1], True), (fork[1], fork[2], False)):
+            self.assertIs(do_agree(made, start, items, one, other), agree)
+            self.assertIs(do_agree(made, start, items, other, one), agree)
+            self.assertIs(is_wait_paper(made, start, ("fork", one, other), window=9), not agree)
+
     def test_values_near_papers(self):
         for wrong in (("fork", FORK[1]), FORK + (1,), list(FORK), ("Fork",) + FORK[1:], ("fork", list(FORK[1]), FORK[2]),
                       ("fork", FORK[1][:3], FORK[2]), ("fork", FORK[1] + ("ok",), FORK[2]), ("fork", FORK[1], None), ("fork", None, None),
