@@ -118,6 +118,15 @@ class SameTest(Case):
         self.no(LOOP, sender(SEND, MARK, ("go", 0)), 8)
         self.no(LOOP, sender(SEND, MARK, READ, READ, ("go", 2)), 1)
 
+    def test_rounds_in_which_a_command_is_tried_are_no_silent_ones(self):
+        # The last outcome in ascending order is an answer in one book, and "failed" in the other one.
+        for answer in ("a", "ok"):
+            book = Book(c=(0, (answer,)))
+            made = Program(book, ("do", "c", (), None), MARK, ("go", 0))
+            other = Sender(book, ("send", "c", (), None), MARK, READ, READ, ("go", 0))
+            self.yes(made, other)
+            self.yes(made, other, facts=Facts(book, c=(answer,)))
+
     def test_copies(self):
         made = Program(BOOK, ("do", "new", (), "x"), ("do", "new", (), "y"), MARK, ("do", "put", ("x", "y"), None))
         lines = (("send", "new", (), "a"), ("copy", "b", "a"), ("send", "new", (), "a"), MARK)
