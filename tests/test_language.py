@@ -142,6 +142,32 @@ class StatementsTest(unittest.TestCase):
             for end in (".items()", ".keys()", ".values()"):
                 self.assertFalse(told.endswith(end), (path, node.lineno))
 
+    def test_no_loop_changes_what_it_iterates_over_under_another_name(self):
+        # A list that a loop changes never gets the name of what the loop goes over, nor the other way round.
+        for path, function in nodes(ast.FunctionDef):
+            shared = [
+                {node.value.id, target.id} for node in ast.walk(function) if isinstance(node, ast.Assign) and isinstance(node.value, ast.Name)
+                for target in node.targets if isinstance(target, ast.Name)]
+            for loop in [node for node in ast.walk(function) if isinstance(node, ast.For)]:
+                walked = {node.id for node in ast.walk(loop.iter) if isinstance(node, ast.Name)}
+                if isinstance(loop.iter, ast.Call) and ast.unparse(loop.iter.func) in ("list", "range"):
+                    walked = set()
+                for name in self.changed_in(loop):
+                    self.assertNotIn(name, walked, (path, loop.lineno))
+                    for pair in shared:
+                        self.assertFalse(name in pair and pair & walked, (path, loop.lineno))
+
+    def changed_in(self, loop):
+        """The names of what is changed in the rows of a loop."""
+        found = set()
+        for node in [node for row in loop.body for node in ast.walk(row)]:
+            if isinstance(node, ast.Call) and isinstance(node.func, ast.Attribute) and isinstance(node.func.value, ast.Name):
+                if node.func.attr in ("append", "extend", "pop", "insert", "remove", "clear", "update", "setdefault", "reverse"):
+                    found.add(node.func.value.id)
+            if isinstance(node, ast.Subscript) and not isinstance(node.ctx, ast.Load) and isinstance(node.value, ast.Name):
+                found.add(node.value.id)
+        return found
+
     def test_no_two_files_import_from_each_other(self):
         imports = {}
         for path, tree in trees().items():

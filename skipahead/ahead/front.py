@@ -75,14 +75,14 @@ def all_fates(choices, deal, items):
     """The list of all fates of a list of items in a deal, ascending, with the outcomes that each command can have."""
     found = [((), deal)]
     for item in items:
-        longer = []
-        for fate, now in found:
-            if item == MARK:
-                longer.append((fate + ("undone" if now == "broken" else "kept",), "fresh"))
-            elif now == "broken":
-                longer.append((fate + ("skipped",), now))
-            else:
-                for outcome in choices[item[1]]:
-                    longer.append((fate + (outcome,), "broken" if outcome == "failed" else "open"))
-        found = longer
+        found = [pair for fate, now in found for pair in longer_fates(choices, fate, now, item)]
     return [fate for fate, _ in found]
+
+
+def longer_fates(choices, fate, deal, item):
+    """The pairs of each fate with a further item, ascending, and the deal behind it."""
+    if item == MARK:
+        return [(fate + ("undone" if deal == "broken" else "kept",), "fresh")]
+    if deal == "broken":
+        return [(fate + ("skipped",), deal)]
+    return [(fate + (outcome,), "broken" if outcome == "failed" else "open") for outcome in choices[item[1]]]

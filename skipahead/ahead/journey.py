@@ -4,7 +4,7 @@ from skipahead.ahead.lists import forced_front
 from skipahead.ahead.spots import stand_at
 from skipahead.ahead.waits import paper_behind
 from skipahead.base.items import MARK
-from skipahead.plain.moves import END, Moves
+from skipahead.plain.moves import END, moves_of
 from skipahead.plain.places import numbers_of
 
 
@@ -62,7 +62,7 @@ class Journey:
 
     def set_out(self):
         """Sends the first list."""
-        self._send_list(Moves(self.plans.code).begun(), {})
+        self._send_list(moves_of(self.plans.code).begun(), {})
 
     def go_on(self, many):
         """Waits so many times, or fewer if the run ends or pauses sooner, and sends a list behind each wait."""
@@ -95,18 +95,16 @@ class Journey:
         leg = Leg(stand, sources, listed, told)
         begin = len(self.wire.tape.taken)
         for item in listed:
-            further = self._on_line(item, leg, begin)
-            if self.wire.lacks(further):
+            if item == MARK:
+                self.wire.pass_mark()
+            elif self.wire.pass_call(self._on_line(item, leg, begin)) is None:
                 break
-            self.wire.pass_on(further)
             leg.many = leg.many + 1
         leg.depth = len(self.wire.tape.entries)
         self.legs.append(leg)
 
     def _on_line(self, item, leg, begin):
-        """The item of a list as it is told on the line, where the list has this index."""
-        if item == MARK:
-            return MARK
+        """The command of a list as it is told on the line, where the list has this index."""
         arguments = []
         for argument in item[2]:
             if isinstance(argument, str):

@@ -6,7 +6,7 @@ from skipahead.base.counts import is_count, need_window
 from skipahead.base.items import MARK, is_items
 from skipahead.errors import InvalidItem, InvalidOperation, InvalidStand, TooMany
 from skipahead.line.facts import choices_of, need_facts
-from skipahead.plain.moves import Moves
+from skipahead.plain.moves import moves_of
 from skipahead.plain.places import is_end, is_held, is_numbered, is_work_line
 from skipahead.plain.programs import need_program
 
@@ -16,7 +16,7 @@ MAX_FATES = 3000
 def first_stand(program):
     """The stand at the beginning of a run."""
     need_program(program)
-    return Moves(program).begun()
+    return moves_of(program).begun()
 
 
 def is_stand(program, value):
@@ -38,14 +38,14 @@ def is_broken_line(program, value):
     """Whether the value is the number of a line with a mark, behind which in a broken deal a command is tried."""
     if not is_count(value) or value >= len(program.lines) or program.lines[value] != MARK:
         return False
-    return Moves(program).goes_on(value)
+    return moves_of(program).goes_on(value)
 
 
 def thing_at(program, stand):
     """The thing at a stand."""
     need_program(program)
     need_stand(program, stand)
-    return Moves(program).thing(stand)
+    return moves_of(program).thing(stand)
 
 
 def fates(program, stand, items, *, facts=None):

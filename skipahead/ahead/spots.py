@@ -6,7 +6,7 @@ are the indexes of the items that were done, at least of those that can still ma
 """
 
 from skipahead.base.items import MARK
-from skipahead.plain.moves import END, Moves
+from skipahead.plain.moves import END, moves_of
 from skipahead.plain.places import numbered, numbers_of
 
 
@@ -14,7 +14,7 @@ class Spots:
     """The spots of the lists for a stand of a program, with the outcomes that each command can have."""
 
     def __init__(self, program, stand, choices):
-        self.moves = Moves(program)
+        self.moves = moves_of(program)
         self.choices = choices
         if stand[0] == END:
             held = [None for _ in program.registers]

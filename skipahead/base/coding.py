@@ -72,6 +72,19 @@ def ways_on(lines, at):
     return (at + 1,)
 
 
+def lines_on_to(lines, word):
+    """Of each line, whether all ways on from it come to a line that begins with this word, or to an end."""
+    ways = [ways_on(lines, at) for at in range(len(lines))]
+    safe = [line[0] == word for line in lines] + [True]
+    changed = True
+    while changed:
+        changed = False
+        for at in reversed(range(len(lines))):
+            if not safe[at] and all([safe[way] for way in ways[at]]):
+                safe[at] = changed = True
+    return safe[:-1]
+
+
 def jumped(lines, at, last):
     """The number of the first line from line at on that is no jump, with this last answer, or that of the end."""
     while at < len(lines):

@@ -42,18 +42,17 @@ class Line:
     @property
     def tried(self):
         """The number of tried commands."""
-        return self._now.levels[-1][2]
+        return self._now.many_tried
 
     @property
     def kept(self):
         """The number of kept deals in which something was tried."""
-        _, entries, tried = self._now.levels[-1]
-        return entries - tried
+        return len(self._now.entries) - self._now.many_tried
 
     @property
     def deal(self):
         """Whether the deal is fresh, open or broken."""
-        return self._now.levels[-1][0]
+        return self._now.mood
 
     def is_tried(self, item):
         """Whether the server would try this item now."""

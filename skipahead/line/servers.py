@@ -92,9 +92,9 @@ class Server:
         return f"server with {len(self._table)} states"
 
 
-def step_of(server, state, key):
-    """What the table of a server tells for a command, or for a kept deal, in a state."""
-    return server._table[state][key]
+def table_of(server):
+    """The table of a server, which is not to be changed."""
+    return server._table
 
 
 def checked_table(book, table):

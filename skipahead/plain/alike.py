@@ -1,70 +1,31 @@
 """Programs that are alike, and papers that show whether they are."""
 
-from skipahead.base.items import MARK
-from skipahead.base.search import is_closed, reached, row_to
+from skipahead.base.search import are_ascending, behind_step, by_text, explored, is_closed
 from skipahead.errors import InvalidProgram, InvalidStand
-from skipahead.plain.moves import END, NEW, Moves
-from skipahead.plain.places import held_at, is_numbered, is_place, numbered, numbers_of
+from skipahead.plain.moves import END
+from skipahead.plain.pairs import Pairs
+from skipahead.plain.places import held_at, is_numbered, is_place
 from skipahead.plain.programs import Program, need_program
 from skipahead.plain.runs import behind, is_row_of
 
 MAX_PAIRS = 3000
 
 
-class Pairs:
-    """The pair states of two programs, and the steps from each to those behind it."""
-
-    def __init__(self, one, other):
-        self.choices = {command: one.book.outcomes(command) for command in one.book}
-        self.sides = (Moves(one), Moves(other))
-
-    def first(self):
-        """The first pair state."""
-        return paired(self.sides[0].begun(), self.sides[1].begun())
-
-    def goes_well(self, state):
-        """Whether both programs go on alike at a pair state, or end alike."""
-        return self.sides[0].thing(state[0]) == self.sides[1].thing(state[1])
-
-    def steps(self, state):
-        """The pairs of an outcome, or None, and the state behind it."""
-        thing = self.sides[0].thing(state[0])
-        if thing[0] == END or not self.goes_well(state):
-            return []
-        if thing == MARK:
-            one, other = [side.stand_marked(place[0], place[1], "kept") for side, place in zip(self.sides, state)]
-            return [(None, paired(one, other))]
-        return [(outcome, self._behind(state, outcome)) for outcome in self.choices[thing[1]]]
-
-    def _behind(self, state, outcome):
-        stands = [side.stand_tried(place[0], place[1], outcome, NEW) for side, place in zip(self.sides, state)]
-        return paired(self.sides[0].stand_worked(stands[0]), self.sides[1].stand_worked(stands[1]))
-
-
-def paired(stand, further):
-    """The pair state of two stands, neither of them in a broken deal."""
-    numbers = numbers_of(held_at(stand) + held_at(further))
-    deal = "fresh"
-    for one in (stand, further):
-        if one[0] != END:
-            deal = one[2]
-    return numbered(stand, numbers), numbered(further, numbers), deal
-
-
 def are_alike(one, other):
     """Whether both programs have the same work and the same result with every server."""
-    return alike_paper(one, other)[0] == "alike"
+    need_both(one, other)
+    pairs = Pairs(one, other)
+    return explored(pairs, pairs.first(), MAX_PAIRS)[1] is None
 
 
 def alike_paper(one, other):
     """A paper that shows whether both programs are alike, as short as possible."""
     need_both(one, other)
     pairs = Pairs(one, other)
-    found = reached(pairs, pairs.first(), MAX_PAIRS)
-    for state in found:
-        if not pairs.goes_well(state):
-            return "parted", row_to(found, state)
-    return "alike", tuple(sorted(found, key=lambda state: repr(state)))
+    known, row = explored(pairs, pairs.first(), MAX_PAIRS)
+    if row is not None:
+        return "parted", row
+    return "alike", by_text(pairs, known)
 
 
 def is_alike_paper(one, other, value):
@@ -79,7 +40,9 @@ def is_alike_paper(one, other, value):
     if not all([is_pair(one, other, state) for state in value[1]]):
         return False
     pairs = Pairs(one, other)
-    return is_closed(pairs, pairs.first(), value[1])
+    if not are_ascending([repr(state) for state in value[1]]):
+        return False
+    return is_closed(pairs, pairs.first(), [pairs.key_of(state) for state in value[1]])
 
 
 def is_parting(one, other, value):
@@ -90,7 +53,8 @@ def is_parting(one, other, value):
 def first_pair(one, other):
     """The first pair state of two programs."""
     need_both(one, other)
-    return Pairs(one, other).first()
+    pairs = Pairs(one, other)
+    return pairs.shown(pairs.first())[1]
 
 
 def pairs_behind(one, other, state):
@@ -98,8 +62,8 @@ def pairs_behind(one, other, state):
     need_both(one, other)
     if not is_pair(one, other, state):
         raise InvalidStand("not a pair state of both programs")
-    found = {further: True for _, further in Pairs(one, other).steps(state)}
-    return tuple(sorted(found, key=lambda further: repr(further)))
+    pairs = Pairs(one, other)
+    return by_text(pairs, list({key: True for key in behind_step(pairs, pairs.key_of(state))}))
 
 
 def is_pair(one, other, value):

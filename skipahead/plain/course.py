@@ -1,19 +1,18 @@
 """Where a plain run is, item by item."""
 
-from skipahead.base.coding import ENDS, jumped
-from skipahead.base.items import MARK
+from skipahead.plain.moves import moves_of, put
 
 
 class Course:
-    """What a program has sent down a wire, and what it knew at its beginning and behind each item."""
+    """What a program has sent down a wire, and where it stood at its beginning and behind each item."""
 
     def __init__(self, code, wire):
         self.code = code
         self.wire = wire
-        initial = tuple([name if name in code.parameters else None for name in code.registers])
-        # The number of the line with the next item, the last answer, and what the registers hold: a parameter, the
-        # index of an item whose command was done, or None.
-        self.stops = [(jumped(code.lines, 0, None), None, initial)]
+        self.moves = moves_of(code)
+        # The number of the line with the next item, and what the registers hold: a parameter, the index of an item
+        # whose command was done, or None.
+        self.stops = [(self.moves.hop(-1, None), self.moves.initial)]
 
     def copied(self):
         """An independent course with the same items."""
@@ -23,47 +22,46 @@ class Course:
 
     def standing(self):
         """Whether the run is going, paused or ended."""
-        at = self.stops[-1][0]
-        if at == len(self.code.lines) or self.code.lines[at][0] in ENDS:
-            return "ended"
-        return "paused" if self.wire.lacks(self.next_sent()) else "going"
+        word = self.moves.words[self.stops[-1][0]]
+        if word != "do":
+            return "going" if word == "mark" else "ended"
+        return "paused" if self.wire.lacks() else "going"
 
-    def next_sent(self):
-        """The item that the program sends next."""
-        at, _, held = self.stops[-1]
-        line = self.code.lines[at]
-        if line == MARK:
-            return MARK
-        return "send", line[1], tuple([held[self.slot(name)] for name in line[2]])
-
-    def slot(self, name):
-        """The place of a register."""
-        return self.code.registers.index(name)
+    def last_said(self):
+        """The last answer."""
+        return self.wire.tape.said[-1] if len(self.stops) > 1 else None
 
     def origin_in(self, name):
         """The origin of what a register holds."""
-        return self.wire.tape.origin_of(self.stops[-1][2][self.slot(name)])
+        return self.wire.tape.origin_of(self.stops[-1][1][self.moves.slots[name]])
 
     def go_on(self, many):
         """Sends so many items, or fewer if the run ends or pauses sooner."""
-        left = many
-        while left > 0 and self.standing() == "going":
-            self._send()
-            left = left - 1
+        moves = self.moves
+        hops = moves.hops
+        at, held = self.stops[-1]
+        index = len(self.stops) - 1
+        end = index + many
+        while index < end:
+            word = moves.words[at]
+            if word == "do":
+                command, slots, target = moves.calls[at]
+                answer = self.wire.pass_call(("send", command, tuple([held[slot] for slot in slots]) if slots else ()))
+                if answer is None:
+                    break
+                if target is not None:
+                    held = put(held, target, None if answer == "failed" or answer == "skipped" else index)
+            elif word == "mark":
+                answer = self.wire.pass_mark()
+            else:
+                break
+            further = hops.get((at, answer))
+            at = moves.hop(at, answer) if further is None else further
+            self.stops.append((at, held))
+            index = index + 1
 
     def take_back(self, many):
         """Takes back the last items and returns how many are left."""
         left = self.wire.take_back(many)
         del self.stops[left + 1:]
         return left
-
-    def _send(self):
-        at, _, held = self.stops[-1]
-        line = self.code.lines[at]
-        answer = self.wire.pass_on(self.next_sent())
-        if line != MARK and line[3] is not None:
-            index = len(self.wire.tape.taken) - 1
-            slot = self.slot(line[3])
-            value = index if self.wire.tape.sources[index] is not None else None
-            held = held[:slot] + (value,) + held[slot + 1:]
-        self.stops.append((jumped(self.code.lines, at + 1, answer), answer, held))

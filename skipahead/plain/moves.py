@@ -25,30 +25,34 @@ class Moves:
             for at, line in enumerate(self.code) if line[0] == "do"
         }
         self.initial = tuple([name if name in program.parameters else None for name in self.slots])
+        # Of each line with a command, what is known of the way to the next one, by the outcome.
+        self.routes = {at: {} for at in self.calls}
+        # The first word of each line; the end behind the last line gives the result None.
+        self.words = [line[0] for line in self.code] + ["give"]
+        # What is known of the number of the first line behind one that is no jump, by this one and the last answer.
+        self.hops = {}
         self._ways = {}
         self._falls = {}
 
     def begun(self):
         """The stand at the beginning of a run."""
-        return stood(self._fresh(0, None), self.initial, "fresh")
+        return stood(self.started(), self.initial, "fresh")
+
+    def started(self):
+        """The way to the first command that is tried, or to the end."""
+        return self._fresh(0, None)
 
     def stand_tried(self, line, held, outcome, value):
         """The stand behind the command of a line, which has this value if it is done."""
         target = self.calls[line][2]
         if outcome != "failed":
-            return stood(self._way(line, outcome), put(held, target, value), "open")
+            return stood(self.way(line, outcome), put(held, target, value), "open")
         cleared, way = self._fall(line)
-        return stood(way, tuple([None if slot in cleared else held[slot] for slot in range(len(held))]), "broken")
+        return stood(way, emptied(held, cleared), "broken")
 
     def stand_marked(self, line, held, answer):
         """The stand behind the mark of a line."""
-        return stood(self._way(line, answer), held, "fresh")
-
-    def stand_worked(self, stand):
-        """The stand at the next work: what comes in a broken deal, and its mark, has been passed."""
-        if stand[0] != END and stand[2] == "broken":
-            return self.stand_marked(stand[0], stand[1], "undone")
-        return stand
+        return stood(self.way(line, answer), held, "fresh")
 
     def thing(self, stand):
         """What is done at a stand or a place: a try of a command, a mark, or an end."""
@@ -61,16 +65,43 @@ class Moves:
 
     def goes_on(self, line):
         """Whether a command is tried behind the mark of a line in a broken deal."""
-        return self._way(line, "undone")[0] != END
+        return self.way(line, "undone")[0] != END
 
-    def _way(self, line, answer):
+    def worked(self, line, outcome):
+        """The way from a command to the next work, and the places that are emptied on it.
+
+        What comes in a broken deal, and its mark, is no work.
+        """
+        if outcome != "failed":
+            return self.way(line, outcome), ()
+        cleared, way = self._fall(line)
+        return (way if way[0] == END else self.way(way[0], "undone")), cleared
+
+    def route(self, line, outcome):
+        """The way from a command to the next one that is tried: whether it keeps a deal, emptied places, the way."""
+        known = self.routes[line]
+        if outcome not in known:
+            way, cleared = self.worked(line, outcome)
+            keeps = way[0] != END and way[0] not in self.calls
+            if keeps:
+                way = self.way(way[0], "kept")
+            known[outcome] = (keeps, cleared, way)
+        return known[outcome]
+
+    def way(self, line, answer):
         """The pair of the next line with a work, or END, and the result."""
         if (line, answer) not in self._ways:
             if line in self.calls:
-                self._ways[line, answer] = self._stop(jumped(self.code, line + 1, answer), answer)
+                self._ways[line, answer] = self._stop(self.hop(line, answer), answer)
             else:
                 self._ways[line, answer] = self._fresh(line + 1, answer)
         return self._ways[line, answer]
+
+    def hop(self, at, answer):
+        """The number of the first line behind line at that is no jump, with this last answer, or that of the end."""
+        if (at, answer) not in self.hops:
+            self.hops[at, answer] = jumped(self.code, at + 1, answer)
+        return self.hops[at, answer]
 
     def _fresh(self, at, last):
         """The same from line at on in a fresh deal, whose marks make no work."""
@@ -83,24 +114,31 @@ class Moves:
     def _fall(self, line):
         """What comes behind a failed command: the places that are emptied, and the way to the mark, or to the end."""
         if line not in self._falls:
-            cleared = [self.calls[line][2]]
+            gone = [self.calls[line][2]]
             last = "failed"
             at = jumped(self.code, line + 1, last)
             while at in self.calls:
-                cleared.append(self.calls[at][2])
+                gone.append(self.calls[at][2])
                 last = "skipped"
                 at = jumped(self.code, at + 1, last)
             way = self._stop(at, last)
             # A mark of a broken deal counts only if something is tried behind it.
             if way[0] != END and not self.goes_on(at):
-                way = self._way(at, "undone")
-            self._falls[line] = (cleared, way)
+                way = self.way(at, "undone")
+            self._falls[line] = ([slot for slot in range(len(self.slots)) if slot in gone], way)
         return self._falls[line]
 
     def _stop(self, at, last):
         if at in self.calls or (at < len(self.code) and self.code[at] == MARK):
             return at, None
         return END, result_at(self.code, at, last)
+
+
+def moves_of(program):
+    """The moves of a program, which keeps them."""
+    if program._moves is None:
+        program._moves = Moves(program)
+    return program._moves
 
 
 def stood(way, held, deal):
@@ -113,3 +151,10 @@ def put(held, slot, value):
     if slot is None:
         return held
     return held[:slot] + (value,) + held[slot + 1:]
+
+
+def emptied(held, slots):
+    """What registers hold when those at these places hold nothing."""
+    for slot in slots:
+        held = put(held, slot, None)
+    return held

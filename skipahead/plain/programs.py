@@ -2,8 +2,8 @@
 
 from skipahead.base.books import need_book
 from skipahead.base.coding import (
-    commands_in, has_line, is_call, is_common_line, need_line, new_names, registers_in, renamed_lines, shifted_line,
-    ways_on, with_line,
+    commands_in, has_line, is_call, is_common_line, lines_on_to, need_line, new_names, registers_in, renamed_lines,
+    shifted_line, ways_on, with_line,
 )
 from skipahead.base.names import is_names
 from skipahead.errors import InvalidOperation, InvalidProgram
@@ -24,6 +24,8 @@ class Program:
         self._lines = lines
         self._parameters = parameters
         self._registers = registers_in(lines, parameters)
+        # What is worked out about the program when it is asked for the first time.
+        self._moves = None
 
     @classmethod
     def of(cls, book, lines, *, parameters=()):
@@ -120,26 +122,12 @@ def are_lines(book, lines, parameters):
         return False
     if len(registers_in(lines, parameters)) > MAX_REGISTERS:
         return False
-    return each_cycle_has(lines, "do") and each_cycle_has(lines, "mark")
+    return all(lines_on_to(lines, "do")) and all(lines_on_to(lines, "mark"))
 
 
 def are_parameters(value):
     """Whether the value is an ascending tuple of up to two names."""
     return is_names(value) and len(value) <= MAX_PARAMETERS
-
-
-def each_cycle_has(lines, word):
-    """Whether each cycle of lines contains a line that begins with the word."""
-    ways = [ways_on(lines, at) for at in range(len(lines))]
-    # True where each way on comes to such a line or to an end.
-    safe = [line[0] == word for line in lines] + [True]
-    changed = True
-    while changed:
-        changed = False
-        for at in reversed(range(len(lines))):
-            if not safe[at] and all([safe[way] for way in ways[at]]):
-                safe[at] = changed = True
-    return all(safe)
 
 
 def need_program(program):

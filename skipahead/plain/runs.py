@@ -2,17 +2,17 @@
 
 from skipahead.base.coding import result_at
 from skipahead.base.counts import need_count
-from skipahead.base.items import MARK, is_row
+from skipahead.base.items import is_row
 from skipahead.errors import InvalidRow, InvalidServer, NothingToUndo, TooMany, UnknownName
 from skipahead.line.facts import choices_of
 from skipahead.line.line import MAX_ITEMS, line_with
-from skipahead.line.servers import Server
-from skipahead.line.sources import first_place, need_source, outcome_at, place_behind_kept
+from skipahead.line.servers import Server, table_of
+from skipahead.line.sources import need_source
 from skipahead.line.tape import KEPT
 from skipahead.line.trials import Trial
 from skipahead.line.wire import Wire
 from skipahead.plain.course import Course
-from skipahead.plain.moves import END, Moves
+from skipahead.plain.moves import END, moves_of
 from skipahead.plain.programs import need_program
 
 MAX_ROW = 3000
@@ -56,7 +56,7 @@ class PlainRun:
     @property
     def last(self):
         """The last answer."""
-        return self._now.stops[-1][1]
+        return self._now.last_said()
 
     @property
     def state(self):
@@ -66,8 +66,9 @@ class PlainRun:
     @property
     def result(self):
         """The result, or None as long as the run has not ended."""
-        at, last, _ = self._now.stops[-1]
-        return result_at(self._program.lines, at, last) if self._now.standing() == "ended" else None
+        if self._now.standing() != "ended":
+            return None
+        return result_at(self._program.lines, self._now.stops[-1][0], self._now.last_said())
 
     @property
     def waits(self):
@@ -83,11 +84,13 @@ class PlainRun:
     def go(self, *, many=1):
         """Sends so many items, or fewer if the run ends or pauses sooner, and returns the state."""
         need_count(many)
-        # Behind an error the run must be as before, so what goes on is a copy.
-        now = self._now.copied()
-        now.go_on(many)
-        self._now = now
-        return now.standing()
+        before = len(self._now.wire.tape.taken)
+        try:
+            self._now.go_on(many)
+        except (InvalidRow, TooMany):
+            self._now.take_back(len(self._now.wire.tape.taken) - before)
+            raise
+        return self._now.standing()
 
     def undo(self, *, many=1):
         """Takes back the last items and returns how many are left."""
@@ -133,8 +136,18 @@ def row_of(program, server, many):
     need_count(many)
     if many > MAX_ROW:
         raise TooMany(MAX_ROW)
-    work = worked(program, server, many)[0]
-    return tuple([entry[2] for entry in work if entry != KEPT])
+    moves = moves_of(program)
+    table = table_of(server)
+    state = server.start
+    line = moves.started()[0]
+    row = []
+    while line != END and len(row) < many:
+        outcome, state = table[state][moves.calls[line][0]]
+        row.append(outcome)
+        keeps, _, (line, _) = moves.route(line, outcome)
+        if keeps:
+            state = table[state]["kept"]
+    return tuple(row)
 
 
 def behind(program, row):
@@ -142,12 +155,10 @@ def behind(program, row):
     need_program(program)
     if not is_row(program.book, row):
         raise InvalidRow("not a tuple of outcomes of commands of the book")
-    work, thing, tried = worked(program, row, len(row))
-    if tried < len(row):
-        raise InvalidRow(f"the run ends behind {tried} outcomes")
+    work, thing = worked(program, row)
     if len(row) > MAX_ROW:
         raise TooMany(MAX_ROW)
-    return work, thing
+    return tuple(work), thing
 
 
 def is_row_of(program, value):
@@ -160,24 +171,27 @@ def is_row_of(program, value):
     return True
 
 
-def worked(program, server, many):
-    """The work with so many outcomes, as far as it goes without a further one; the thing behind it; how many it has."""
-    moves = Moves(program)
-    stand = moves.begun()
-    choices = choices_of(program.book, None)
-    place = first_place(server)
-    work = []
-    tried = 0
-    thing = moves.thing(stand)
-    while thing == MARK or (thing[0] != END and tried < many):
-        if thing == MARK:
-            work.append(KEPT)
-            place = place_behind_kept(server, place)
-            stand = moves.stand_marked(stand[0], stand[1], "kept")
-        else:
-            outcome, place = outcome_at(choices, server, place, thing[1])
-            work.append((thing[1], thing[2], outcome))
-            stand = moves.stand_worked(moves.stand_tried(stand[0], stand[1], outcome, tried))
-            tried = tried + 1
-        thing = moves.thing(stand)
-    return tuple(work), thing, tried
+def worked(program, row):
+    """The list of the entries of a run with a row, as far as it goes without a further outcome; the thing behind it."""
+    moves = moves_of(program)
+    line, result = moves.started()
+    held = list(moves.initial)
+    entries = []
+    for number, outcome in enumerate(row):
+        if line == END:
+            raise InvalidRow(f"the run ends behind {number} outcomes")
+        command, slots, target = moves.calls[line]
+        known = moves.routes[line]
+        if outcome not in known and outcome not in program.book.outcomes(command):
+            raise InvalidRow(f"not an outcome of the command {command} here: {outcome}")
+        keeps, gone, (line, result) = known[outcome] if outcome in known else moves.route(line, outcome)
+        entries.append((command, tuple([held[slot] for slot in slots]) if slots else (), outcome))
+        if outcome != "failed" and target is not None:
+            held[target] = number
+        for slot in gone:
+            held[slot] = None
+        if keeps:
+            entries.append(KEPT)
+    if line == END:
+        return entries, (END, result)
+    return entries, moves.thing((line, held))

@@ -1,9 +1,7 @@
 """Where a run of a sender is, wait by wait."""
 
 from skipahead.base.coding import ENDS, result_at
-from skipahead.base.items import MARK
 from skipahead.plain.moves import put
-from skipahead.send.script import SENDS
 
 
 class Hand:
@@ -22,7 +20,7 @@ class Hand:
         self.come = 0
         self.phase = "going"
         self.cause = None
-        # How it was at each line, with the number of entries of work then, in the order of time.
+        # How it was at each risky line, with the number of entries of work then, in the order of time.
         self.seen = {}
         # How it was ahead of each wait, and how many entries the work had behind 0, 1, .. waits.
         self.rests = []
@@ -57,9 +55,19 @@ class Hand:
 
     def set_out(self):
         """Goes on until the run would have to wait, ends, stops or pauses."""
+        words = self.script.words
+        risky = self.script.risky
         self.phase = "going"
         while self.phase == "going":
-            self._do_line()
+            word = words[self.here]
+            if word == "send" or word == "mark":
+                self._send(word)
+            elif word == "read":
+                self._read()
+            elif word in ENDS:
+                self.phase = "ended"
+            elif not risky[self.here] or self._is_new():
+                self.here, self.heard, self.holds = self.script.quiet(self.here, self.heard, self.holds)
         self.depths.append(len(self.wire.tape.entries))
 
     def go_on(self, many):
@@ -74,7 +82,7 @@ class Hand:
         many = len(self.wire.tape.taken)
         self.rests.append((self.here, self.heard, self.holds, self.used, self.come, many, len(self.seen)))
         self.come = many
-        self._do_quiet()
+        self._take_answers(1)
         self.set_out()
 
     def take_back(self, many):
@@ -83,64 +91,63 @@ class Hand:
         if many > 0:
             self.here, self.heard, self.holds, self.used, self.come, items, lines = self.rests[left]
             self.wire.take_back(len(self.wire.tape.taken) - items)
-            self.seen = {key: True for key in list(self.seen)[:lines]}
+            if len(self.seen) > lines:
+                self.seen = {key: True for key in list(self.seen)[:lines]}
             del self.rests[left:]
             del self.depths[left + 1:]
             self.phase = "waiting"
             self.cause = None
         return left
 
-    def next_sent(self):
-        """The item that it sends at a line that sends one."""
-        if self.here not in self.script.calls:
-            return MARK
-        command, slots, _ = self.script.calls[self.here]
-        return "send", command, tuple([self.holds[slot] for slot in slots])
+    def next_arguments(self):
+        """What it sends the command of its line with."""
+        return tuple([self.holds[slot] for slot in self.script.calls[self.here][1]])
 
-    def _do_line(self):
-        word = self.script.word_at(self.here)
-        if word in ENDS:
-            self.phase = "ended"
+    def _send(self, word):
+        many = len(self.wire.tape.taken)
+        if many - self.used >= self.many:
+            self._stop("full")
             return
-        self.cause = self._why_stop(word)
-        if self.cause is not None:
-            self.phase = "stopped"
-        elif word in SENDS:
-            self._send()
-        elif word == "read" and self.used == self.come:
-            self.phase = "waiting"
+        if self.script.risky[self.here] and not self._is_new():
+            return
+        if word == "mark":
+            self.wire.pass_mark()
         else:
-            self._do_quiet()
-
-    def _why_stop(self, word):
-        """Why the run stops at this line, or None; notes how it is there."""
-        tape = self.wire.tape
-        unread = len(tape.taken) - self.used
-        if word in SENDS and unread >= self.many:
-            return "full"
-        if word == "read" and unread == 0:
-            return "empty"
-        origins = tuple([tape.origin_of(value) for value in self.holds])
-        key = (len(tape.entries), self.here, self.heard, origins, self.unread_now(), tape.levels[-1][0])
-        if key in self.seen:
-            return "round"
-        self.seen[key] = True
-        return None
-
-    def _send(self):
-        item = self.next_sent()
-        if self.wire.lacks(item):
-            self.phase = "paused"
-            return
-        self.wire.pass_on(item)
-        if item != MARK:
-            target = self.script.calls[self.here][2]
-            self.holds = put(self.holds, target, len(self.wire.tape.taken) - 1)
+            command, slots, target = self.script.calls[self.here]
+            item = ("send", command, tuple([self.holds[slot] for slot in slots]) if slots else ())
+            if self.wire.pass_call(item) is None:
+                self.phase = "paused"
+                return
+            if target is not None:
+                self.holds = put(self.holds, target, many)
         self.here = self.here + 1
 
-    def _do_quiet(self):
-        said = None
-        if self.script.word_at(self.here) == "read":
-            said = self.wire.tape.said[self.used]
-            self.used = self.used + 1
-        self.here, self.heard, self.holds = self.script.quiet(self.here, self.heard, self.holds, said)
+    def _read(self):
+        if self.used == len(self.wire.tape.said):
+            self._stop("empty")
+        elif not self.script.risky[self.here] or self._is_new():
+            if self.used < self.come:
+                self._take_answers(min(self.script.reads[self.here], self.come - self.used))
+            else:
+                self.phase = "waiting"
+
+    def _take_answers(self, many):
+        """Reads so many answers, which have come, at as many lines."""
+        self.used = self.used + many
+        self.heard = self.wire.tape.said[self.used - 1]
+        self.here = self.here + many
+
+    def _stop(self, why):
+        self.phase = "stopped"
+        self.cause = why
+
+    def _is_new(self):
+        """Whether all is not as it was at this line before; notes how it is, or stops."""
+        tape = self.wire.tape
+        origins = tuple([tape.origin_of(value) for value in self.holds])
+        key = (len(tape.entries), self.here, self.heard, origins, self.unread_now(), tape.mood)
+        if key in self.seen:
+            self._stop("round")
+            return False
+        self.seen[key] = True
+        return True

@@ -1,7 +1,7 @@
 """What shows whether a sender does the same as a program."""
 
 from skipahead.base.counts import need_window
-from skipahead.base.search import is_closed, reached, row_to
+from skipahead.base.search import are_ascending, by_text, explored, is_closed
 from skipahead.errors import InvalidRow, InvalidSender, TooMany, Unlike
 from skipahead.line.facts import choices_of, need_facts
 from skipahead.line.tape import KEPT
@@ -15,19 +15,19 @@ MAX_SAME_STATES = 3000
 
 def does_same(program, sender, *, window=16, facts=None):
     """Whether a sender does the same as a program."""
-    return same_paper(program, sender, window=window, facts=facts)[0] == "same"
+    need_like(program, sender, window, facts)
+    sames = Sames(program, sender, window, facts)
+    return explored(sames, sames.first(), MAX_SAME_STATES)[1] is None
 
 
 def same_paper(program, sender, *, window=16, facts=None):
     """A paper that shows whether a sender does the same as a program, its row as short as possible."""
     need_like(program, sender, window, facts)
     sames = Sames(program, sender, window, facts)
-    found = reached(sames, sames.first(), MAX_SAME_STATES)
-    circling = sames.circling(list(found))
-    for state in found:
-        if state in circling or not sames.goes_well(state):
-            return "unlike", row_to(found, state)
-    return "same", tuple(sorted(found, key=lambda state: repr(state)))
+    known, row = explored(sames, sames.first(), MAX_SAME_STATES)
+    if row is not None:
+        return "unlike", row
+    return "same", by_text(sames, known)
 
 
 def is_same_paper(program, sender, value, *, window=16, facts=None):
@@ -42,7 +42,9 @@ def is_same_paper(program, sender, value, *, window=16, facts=None):
     if not all([is_same_state(program, sender, state) for state in value[1]]):
         return False
     sames = Sames(program, sender, window, facts)
-    return is_closed(sames, sames.first(), value[1]) and not sames.circling(value[1])
+    if not are_ascending([repr(state) for state in value[1]]):
+        return False
+    return is_closed(sames, sames.first(), [sames.key_of(state) for state in value[1]])
 
 
 def is_unlike(program, sender, row, window, choices):

@@ -4,100 +4,132 @@ from skipahead.base.coding import ENDS, result_at
 from skipahead.base.counts import MAX_WINDOW, is_count
 from skipahead.base.items import MARK
 from skipahead.base.names import RESERVED
+from skipahead.base.search import FAULT, KEEPS, OVER, SILENT, TRIES
 from skipahead.line.facts import choices_of
-from skipahead.plain.moves import END, NEW, Moves, put
+from skipahead.plain.moves import END, NEW, emptied, moves_of, put
 from skipahead.plain.places import held_at, is_numbered, is_place, numbered, numbers_of
-from skipahead.send.script import SENDS, Script
+from skipahead.send.script import script_of
 
 
 class Sames:
-    """The same states of a program and a sender for a window and facts, and the steps to those behind each."""
+    """The same states of a program and a sender for a window and facts, and the steps to those behind each.
+
+    A same state has a key: the next line, the last answer, the unread answers, the deal, and the number of a world. A
+    world is what registers hold and the place of the program.
+    """
 
     def __init__(self, program, sender, window, facts):
-        self.moves = Moves(program)
-        self.script = Script(sender)
+        self.moves = moves_of(program)
+        self.script = script_of(sender)
         self.most = window
         self.choices = choices_of(program.book, facts)
+        self.worlds = []
+        self._numbers = {}
+        self._texts = {}
+        # What comes behind a line in a world, or in a world with a deal, where registers change or something is tried.
+        self._behind = {}
+        self._tries = {}
 
     def first(self):
-        """The first same state."""
-        return 0, None, self.script.initial, (), "fresh", self.moves.begun()[:2]
+        """The key of the first same state."""
+        return 0, None, (), "fresh", self._world(self.script.initial, self.moves.begun()[:2])
 
-    def goes_well(self, state):
-        """Whether the sender goes on well at a state."""
+    def key_of(self, state):
+        """The key of a same state."""
         at, last, held, unread, deal, place = state
-        word = self.script.word_at(at)
-        if word in ENDS:
-            return place == (END, result_at(self.script.code, at, last))
+        return at, last, unread, deal, self._world(held, place)
+
+    def shown(self, key):
+        """The text of the same state with a key, and this state."""
+        at, last, unread, deal, number = key
+        held, place = self.worlds[number]
+        if number not in self._texts:
+            self._texts[number] = (repr(held), repr(place))
+        text, place_text = self._texts[number]
+        return f"({at}, {last!r}, {text}, {unread!r}, {deal!r}, {place_text})", (at, last, held, unread, deal, place)
+
+    def step(self, key):
+        """The step from a same state, as a search asks for it."""
+        at, last, unread, deal, world = key
+        word = self.script.words[at]
         if word == "read":
-            return len(unread) > 0
-        if word in SENDS and len(unread) >= self.most:
-            return False
-        if word == "mark":
-            return deal != "open" or self.moves.thing(place) == MARK
-        if word == "send" and deal != "broken":
-            command, slots, _ = self.script.calls[at]
-            return self.moves.thing(place) == ("try", command, tuple([held[slot] for slot in slots]))
-        return True
-
-    def is_silent(self, state):
-        """Whether no command is tried in the step from a state, and no open deal is kept."""
-        word = self.script.word_at(state[0])
-        return (word != "send" or state[4] == "broken") and (word != "mark" or state[4] != "open")
-
-    def steps(self, state):
-        """The pairs of an outcome, or None, and the state behind it; none where the sender does not go on well."""
-        at, last, held, unread, deal, place = state
-        word = self.script.word_at(at)
-        if word in ENDS or not self.goes_well(state):
-            return []
-        if word == "send" and deal != "broken":
-            return [(outcome, self._behind_try(state, outcome)) for outcome in self.choices[self.script.calls[at][0]]]
+            return (SILENT, (at + 1, unread[0], unread[1:], deal, world)) if unread else (FAULT, None)
         if word == "send":
-            held = put(held, self.script.calls[at][2], None)
-            return [(None, told_anew(at + 1, last, held, unread + ("skipped",), deal, place))]
+            return self._sent(key)
         if word == "mark":
+            return self._marked(key)
+        if word in ENDS:
+            place = (END, result_at(self.script.code, at, last))
+            return (OVER if self.worlds[world][1] == place else FAULT), None
+        if word == "copy":
+            return SILENT, (at + 1, last, unread, deal, self._changed(at, world))
+        return SILENT, (self.script.quiet(at, last, ())[0], last, unread, deal, world)
+
+    def _sent(self, key):
+        at, last, unread, deal, world = key
+        if len(unread) >= self.most:
+            return FAULT, None
+        if deal == "broken":
+            return SILENT, (at + 1, last, unread + ("skipped",), deal, self._changed(at, world))
+        told = self._tries.get((at, world))
+        if told is None:
+            told = self._tries[at, world] = self._tried(at, world)
+        return (TRIES, told) if told else (FAULT, None)
+
+    def behind(self, key, outcome, way):
+        """The key behind a same state at which a command is tried and a way on from it."""
+        at, last, unread, _, _ = key
+        return at + 1, last, unread + (outcome,), way[0], way[1]
+
+    def _marked(self, key):
+        at, last, unread, deal, world = key
+        if len(unread) >= self.most:
+            return FAULT, None
+        if deal != "open":
             answer = "undone" if deal == "broken" else "kept"
-            further = self.moves.stand_marked(place[0], place[1], answer) if deal == "open" else place
-            return [(None, told_anew(at + 1, last, held, unread + (answer,), "fresh", further))]
-        at, last, held = self.script.quiet(at, last, held, unread[0] if word == "read" else None)
-        left = unread[1:] if word == "read" else unread
-        return [(None, told_anew(at, last, held, left, deal, place))]
+            return SILENT, (at + 1, last, unread + (answer,), "fresh", world)
+        if self.moves.thing(self.worlds[world][1]) != MARK:
+            return FAULT, None
+        return KEEPS, (at + 1, last, unread + ("kept",), "fresh", self._changed(at, world))
 
-    def _behind_try(self, state, outcome):
-        at, last, held, unread, _, place = state
-        further = self.moves.stand_worked(self.moves.stand_tried(place[0], place[1], outcome, NEW))
-        done = outcome != "failed"
-        held = put(held, self.script.calls[at][2], NEW if done else None)
-        return told_anew(at + 1, last, held, unread + (outcome,), "open" if done else "broken", further)
+    def _tried(self, at, world):
+        """The outcomes of a command that is sent, with the deal and the world behind each; none if this is not well."""
+        held, place = self.worlds[world]
+        command, slots, target = self.script.calls[at]
+        if self.moves.thing(place) != ("try", command, tuple([held[slot] for slot in slots])):
+            return []
+        told = []
+        for outcome in self.choices[command]:
+            done = outcome != "failed"
+            way, gone = self.moves.worked(place[0], outcome)
+            kept = emptied(put(place[1], self.moves.calls[place[0]][2] if done else None, NEW), gone)
+            further = way if way[0] == END else (way[0], kept)
+            behind = self._world(put(held, target, NEW if done else None), further)
+            told.append((outcome, ("open" if done else "broken", behind)))
+        return told
 
-    def circling(self, states):
-        """The states, as keys of a dict, from which silent steps lead back to them, all ways staying among these."""
-        ahead = {}
-        for state in states:
-            if self.is_silent(state):
-                for _, further in self.steps(state):
-                    ahead[state] = further
-        circle = {}
-        met = {}
-        for start in states:
-            state = start
-            while state in ahead and state not in met:
-                met[state] = start
-                state = ahead[state]
-            # Only what was met on this very way closes a circle that is not known yet.
-            if state in met and met[state] == start:
-                while state not in circle:
-                    circle[state] = True
-                    state = ahead[state]
-        return circle
+    def _changed(self, at, world):
+        """The world behind a line that copies, that is skipped, or whose mark keeps an open deal."""
+        if (at, world) not in self._behind:
+            held, place = self.worlds[world]
+            word = self.script.words[at]
+            if word == "mark":
+                place = self.moves.stand_marked(place[0], place[1], "kept")[:2]
+            elif word == "send":
+                held = put(held, self.script.calls[at][2], None)
+            else:
+                held = self.script.quiet(at, None, held)[2]
+            self._behind[at, world] = self._world(held, place)
+        return self._behind[at, world]
 
-
-def told_anew(at, last, held, unread, deal, stand):
-    """The same state with the place of a stand, its classes numbered anew."""
-    place = stand[:2]
-    numbers = numbers_of(held + held_at(place))
-    return at, last, tuple([numbers.get(value, value) for value in held]), unread, deal, numbered(place, numbers)
+    def _world(self, held, place):
+        """The number of a world, its classes numbered anew."""
+        numbers = numbers_of(held + held_at(place))
+        world = (tuple([numbers.get(value, value) for value in held]), numbered(place, numbers))
+        if world not in self._numbers:
+            self._numbers[world] = len(self.worlds)
+            self.worlds.append(world)
+        return self._numbers[world]
 
 
 def is_same_state(program, sender, value):

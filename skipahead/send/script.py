@@ -1,5 +1,6 @@
 """The lines of a sender, with the places of registers worked out."""
 
+from skipahead.base.coding import lines_on_to
 from skipahead.plain.moves import put
 
 SENDS = ("send", "mark")
@@ -17,22 +18,35 @@ class Script:
             at: (line[1], [self.slots[name] for name in line[2]], self.slots.get(line[3]))
             for at, line in enumerate(self.code) if line[0] == "send"
         }
+        # The first word of each line; the end behind the last line gives the result None.
+        self.words = [line[0] for line in self.code] + ["give"]
+        # Whether a run could come to a line again with nothing sent, or no mark, in between.
+        sure = [lines_on_to(self.code, word) for word in SENDS]
+        self.risky = [not (one and other) for one, other in zip(sure[0], sure[1])] + [False]
+        self.reads = reads_from(self.code, self.risky)
 
-    def word_at(self, at):
-        """The first word of a line; the end behind the last line gives the result None."""
-        return "give" if at == len(self.code) else self.code[at][0]
-
-    def quiet(self, at, last, held, said):
-        """The next line, the last answer and what registers hold behind a line that sends nothing and does not end.
-
-        The first answer that is not read is passed as said.
-        """
+    def quiet(self, at, last, held):
+        """The next line, the last answer and what registers hold behind a jump or a copy."""
         line = self.code[at]
         if line[0] == "go":
             return line[1], last, held
         if line[0] == "if":
             return line[2] if line[1] == last else at + 1, last, held
-        if line[0] == "read":
-            return at + 1, said, held
         value = None if line[2] is None else held[self.slots[line[2]]]
         return at + 1, last, put(held, self.slots[line[1]], value)
+
+
+def script_of(sender):
+    """The script of a sender, which keeps it."""
+    if sender._script is None:
+        sender._script = Script(sender)
+    return sender._script
+
+
+def reads_from(code, risky):
+    """How many lines from each one on read, one behind another; of risky ones each is told alone."""
+    many = [0 for _ in code] + [0]
+    for at in reversed(range(len(code))):
+        if code[at] == ("read",):
+            many[at] = 1 if risky[at] else many[at + 1] + 1
+    return many

@@ -18,7 +18,7 @@ from skipahead.plain.moves import END
 from skipahead.plain.programs import are_parameters, need_program
 from skipahead.plain.runs import MAX_ROW
 from skipahead.send.hand import Hand
-from skipahead.send.script import Script
+from skipahead.send.script import script_of
 
 MAX_LINES = 400
 MAX_REGISTERS = 24
@@ -36,6 +36,8 @@ class Sender:
         self._lines = lines
         self._parameters = parameters
         self._registers = registers_in(lines, parameters)
+        # What is worked out about the sender when it is asked for the first time.
+        self._script = None
 
     @classmethod
     def of(cls, book, lines, *, parameters=()):
@@ -139,7 +141,7 @@ class SenderRun:
         self._sender = sender
         self._server = server
         self._window = window
-        now = Hand(Script(sender), Wire(choices_of(sender.book, None), server, MAX_ITEMS), window)
+        now = Hand(script_of(sender), Wire(choices_of(sender.book, None), server, MAX_ITEMS), window)
         now.set_out()
         self._now = now
 
@@ -274,13 +276,13 @@ def sender_behind(sender, row, *, window=16):
     if not is_row(sender.book, row):
         raise InvalidRow("not a tuple of outcomes of commands of the book")
     need_window(window)
-    hand = Hand(Script(sender), Wire(choices_of(sender.book, None), row, None), window)
+    hand = Hand(script_of(sender), Wire(choices_of(sender.book, None), row, None), window)
     hand.set_out()
     while hand.phase == "waiting":
         hand.wait_once()
     tape = hand.wire.tape
-    if tape.levels[-1][2] < len(row):
-        raise InvalidRow(f"the run goes on no more behind {tape.levels[-1][2]} outcomes")
+    if tape.many_tried < len(row):
+        raise InvalidRow(f"the run goes on no more behind {tape.many_tried} outcomes")
     if len(row) > MAX_ROW:
         raise TooMany(MAX_ROW)
     return tuple(tape.entries), thing_behind(hand)
@@ -292,8 +294,8 @@ def thing_behind(hand):
         return END, hand.final()
     if hand.phase == "stopped":
         return "stop", hand.cause
-    _, command, arguments = hand.next_sent()
-    return "try", command, tuple([hand.wire.tape.origin_of(argument) for argument in arguments])
+    command = hand.script.calls[hand.here][0]
+    return "try", command, tuple([hand.wire.tape.origin_of(argument) for argument in hand.next_arguments()])
 
 
 def is_sender(book, value, *, parameters=()):
