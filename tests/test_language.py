@@ -11,7 +11,7 @@ OPERATORS = ("__iadd__", "__add__", "__and__", "__or__", "__bool__", "__contains
 BUILTIN_METHODS = {name for kind in (str, int, list, dict, set, bytes, tuple) for name in dir(kind)}
 CALLED = {
     "len", "range", "enumerate", "zip", "min", "max", "sum", "abs", "sorted", "reversed", "int", "str", "bool", "bytes", "list",
-    "tuple", "dict", "set", "isinstance", "ord", "repr", "any", "all", "divmod", "iter", "super", "KeyError", "IndexError",
+    "tuple", "dict", "set", "isinstance", "ord", "repr", "any", "all", "divmod", "iter", "super", "type", "KeyError", "IndexError",
     "LookupError", "ValueError", "RuntimeError", "OverflowError", "TypeError", "property", "staticmethod", "classmethod", "True",
     "False", "None",
 }
@@ -134,7 +134,8 @@ class StatementsTest(unittest.TestCase):
         for path, node in nodes(ast.Compare):
             for sign, other in zip(node.ops, node.comparators):
                 if isinstance(sign, (ast.Is, ast.IsNot)):
-                    self.assertTrue(isinstance(other, ast.Constant), (path, node.lineno))
+                    of_a_kind = ast.unparse(node.left).startswith("type(") and ast.unparse(other) in ("int", "str", "bool", "list", "tuple", "dict")
+                    self.assertTrue(isinstance(other, ast.Constant) or of_a_kind, (path, node.lineno))
 
     def test_views_are_iterated_at_once(self):
         for path, node in nodes(ast.Assign):

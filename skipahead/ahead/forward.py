@@ -1,15 +1,16 @@
 """Forward runs, which send ahead as far as a program means it."""
 
-from skipahead.ahead.journey import Journey, Plans
+from skipahead.ahead.journey import Journey
+from skipahead.ahead.plans import plans_of
 from skipahead.base.counts import need_count, need_window
-from skipahead.errors import InvalidOperation, NothingToUndo
+from skipahead.errors import InvalidOperation, InvalidRow, NothingToUndo, TooMany
 from skipahead.line.facts import choices_of, need_facts
 from skipahead.line.line import MAX_ITEMS, line_with
 from skipahead.line.servers import Server
 from skipahead.line.sources import need_source
 from skipahead.line.trials import Trial
 from skipahead.line.wire import Wire
-from skipahead.plain.programs import Program, need_program
+from skipahead.plain.programs import need_program
 
 
 class Forward:
@@ -18,6 +19,10 @@ class Forward:
     def __init__(self, program, server, *, window=16, facts=None):
         need_program(program)
         need_source(program.book, server)
+        self._begin(program, server, window, facts, None)
+
+    def _begin(self, program, server, window, facts, bound):
+        """Checks the window and the facts, and sends the first list."""
         need_window(window)
         need_facts(program.book, facts)
         if isinstance(server, Server) and facts is not None and not facts.obeyed_by(server):
@@ -26,9 +31,9 @@ class Forward:
         self._server = server
         self._window = window
         self._facts = facts
-        now = Journey(Plans(program, window, facts), Wire(choices_of(program.book, facts), server, MAX_ITEMS))
-        now.set_out()
-        self._now = now
+        wire = Wire(choices_of(program.book, facts), server, MAX_ITEMS)
+        self._now = Journey(plans_of(program, window, facts, bound), wire)
+        self._now.set_out()
 
     @property
     def program(self):
@@ -68,12 +73,12 @@ class Forward:
     @property
     def pending(self):
         """The forced list of the stand."""
-        return self._now.legs[-1].listed
+        return self._now.legs[-1].plan.listed
 
     @property
     def paper(self):
         """The wait paper of the stand."""
-        return self._now.legs[-1].told
+        return self._now.legs[-1].plan.told
 
     @property
     def state(self):
@@ -83,7 +88,7 @@ class Forward:
     @property
     def result(self):
         """The result, or None as long as the run has not ended."""
-        return self._now.legs[-1].told[1] if self._now.standing() == "ended" else None
+        return self._now.legs[-1].plan.told[1] if self._now.standing() == "ended" else None
 
     @property
     def waits(self):
@@ -98,11 +103,14 @@ class Forward:
     def go(self, *, many=1):
         """Waits so many times, or fewer if the run ends or pauses sooner, and returns the state."""
         need_count(many)
-        # Behind an error the run must be as before, so what goes on is a copy.
-        now = self._now.copied()
-        now.go_on(many)
-        self._now = now
-        return now.standing()
+        legs = len(self._now.legs)
+        items = len(self._now.wire.tape.taken)
+        try:
+            self._now.go_on(many)
+        except (InvalidRow, TooMany):
+            self._now.return_to(legs, items)
+            raise
+        return self._now.standing()
 
     def undo(self, *, many=1):
         """Takes back the last waits, with all that came behind them, and returns how many are left."""
@@ -122,14 +130,7 @@ class Forward:
 
     def twin(self):
         """An independent run that has come as far."""
-        # A new run works out its first list; that of a run which ends at once costs nothing.
-        run = Forward(Program(self._program.book, ("last",)), ())
-        run._program = self._program
-        run._server = self._server
-        run._window = self._window
-        run._facts = self._facts
-        run._now = self._now.copied()
-        return run
+        return come_as_far(Forward(self._program, (), window=self._window, facts=self._facts), self)
 
     def __len__(self):
         return len(self._now.legs[1:])
@@ -143,3 +144,13 @@ class Forward:
 
     def __str__(self):
         return f"forward run behind {len(self._now.legs) - 1} waits, {self._now.standing()}"
+
+
+def come_as_far(run, other):
+    """Gives a new run all that another one has, so that both go on independently, and returns it."""
+    run._program = other._program
+    run._server = other._server
+    run._window = other._window
+    run._facts = other._facts
+    run._now = other._now.copied()
+    return run

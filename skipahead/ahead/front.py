@@ -1,21 +1,24 @@
 """The front: all spots behind a list and its fates."""
 
 from skipahead.base.items import MARK
+from skipahead.errors import TooMany
 from skipahead.plain.moves import END
 
 
 class Front:
     """A list for a stand as it grows, with the spots behind it, the least fate for each, and how many fates it has."""
 
-    def __init__(self, spots, uses):
+    def __init__(self, spots, uses, most):
         self.spots = spots
         # The index of the last item of the list to come that has an item as an argument.
         self.uses = uses
+        self.most = most
         self.listed = []
         self.least = {spots.begin: ()}
-        # How many fates there are whose deal is broken, and how many others.
+        # How many fates there are whose deal is broken, and how many others; how many there were ahead of each item.
         self.fallen = 1 if spots.begin[1] == "broken" else 0
         self.upright = 1 - self.fallen
+        self.counts = [1]
 
     def fits_all(self, item):
         """Whether an item is right behind the list."""
@@ -25,19 +28,22 @@ class Front:
         """The item that is forced behind the list, or None."""
         return self.spots.forced(list(self.least))
 
-    def count_with(self, item):
-        """Counts the fates with a further item, and returns how many there are."""
-        if item == MARK:
-            self.upright, self.fallen = self.upright + self.fallen, 0
-        else:
-            outcomes = self.spots.choices[item[1]]
-            fails = outcomes.count("failed")
-            self.fallen = self.fallen + self.upright * fails
-            self.upright = self.upright * (len(outcomes) - fails)
-        return self.upright + self.fallen
+    def grow(self, window):
+        """Takes in what is forced, up to so many items; returns the item that is forced then, or None."""
+        item = self.next_forced()
+        while item is not None and len(self.listed) < window:
+            self.take_in(item)
+            item = self.next_forced()
+        return item
 
-    def move_on(self, item):
-        """Goes on behind a further item, which is right."""
+    def take_in(self, item):
+        """Goes on behind a further right item, if there are not too many fates then."""
+        upright, fallen = self._numbers_with(item)
+        if upright + fallen > self.most:
+            raise TooMany(self.most)
+        self.upright = upright
+        self.fallen = fallen
+        self.counts.append(upright + fallen)
         index = len(self.listed)
         found = {}
         for spot, fate in self.least.items():
@@ -46,15 +52,28 @@ class Front:
         self.listed.append(item)
         self.least = self._forgetting(found)
 
+    def _numbers_with(self, item):
+        """How many fates there are with a further item whose deal is not broken, and how many others."""
+        if item == MARK:
+            return self.upright + self.fallen, 0
+        outcomes = self.spots.choices[item[1]]
+        fails = outcomes.count("failed")
+        return self.upright * (len(outcomes) - fails), self.fallen + self.upright * fails
+
     def _forgetting(self, found):
         """The same spots without what is known of items that no register holds and that are no arguments later."""
-        held = {value: True for place, _, _ in found if place[0] != END for value in place[1]}
+        held = held_in(found)
         many = len(self.listed)
         kept = {}
         for (place, deal, done), fate in found.items():
             matter = tuple([index for index in done if index in held or self.uses.get(index, 0) >= many])
             keep_least(kept, (place, deal, matter), fate)
         return kept
+
+
+def held_in(spots):
+    """What registers hold at some of these spots, as the keys of a dict."""
+    return {value: True for place, _, _ in spots if place[0] != END for value in place[1]}
 
 
 def keep_least(least, spot, fate):

@@ -4,7 +4,7 @@ from skipahead.ahead.front import Front, all_fates, last_uses
 from skipahead.ahead.spots import Spots, stand_at
 from skipahead.base.counts import is_count, need_window
 from skipahead.base.items import MARK, is_items
-from skipahead.errors import InvalidItem, InvalidOperation, InvalidStand, TooMany
+from skipahead.errors import InvalidItem, InvalidOperation, InvalidStand
 from skipahead.line.facts import choices_of, need_facts
 from skipahead.plain.moves import moves_of
 from skipahead.plain.places import is_end, is_held, is_numbered, is_work_line
@@ -84,7 +84,9 @@ def forced_list(program, stand, *, window, facts=None):
     need_stand(program, stand)
     need_window(window)
     need_facts(program.book, facts)
-    return tuple(forced_front(program, stand, window, facts).listed)
+    front = front_at(program, stand, facts)
+    front.grow(window)
+    return tuple(front.listed)
 
 
 def need_stand(program, stand):
@@ -114,11 +116,11 @@ def spot_behind(spots, items, fate):
 
 def right_front(program, stand, items, facts):
     """The front behind a list, or None if it is not right."""
-    front = Front(Spots(program, stand, choices_of(program.book, facts)), last_uses(items))
+    front = Front(Spots(program, stand, choices_of(program.book, facts)), last_uses(items), MAX_FATES)
     for item in items:
         if not front.fits_all(item):
             return None
-        take_in(front, item)
+        front.take_in(item)
     return front
 
 
@@ -130,18 +132,6 @@ def need_front(program, stand, items, facts):
     return front
 
 
-def forced_front(program, stand, window, facts):
-    """The front behind the forced list of a stand."""
-    front = Front(Spots(program, stand, choices_of(program.book, facts)), {})
-    item = front.next_forced()
-    while item is not None and len(front.listed) < window:
-        take_in(front, item)
-        item = front.next_forced()
-    return front
-
-
-def take_in(front, item):
-    """Goes on behind a further right item, if there are not too many fates then."""
-    if front.count_with(item) > MAX_FATES:
-        raise TooMany(MAX_FATES)
-    front.move_on(item)
+def front_at(program, stand, facts):
+    """The front at a stand, behind the empty list, to which forced items are added."""
+    return Front(Spots(program, stand, choices_of(program.book, facts)), {}, MAX_FATES)

@@ -7,7 +7,7 @@ MAX_WINDOW = 16
 
 def is_count(value):
     """Whether the value is an integer of at least 0."""
-    return isinstance(value, int) and not isinstance(value, bool) and value >= 0
+    return type(value) is int and value >= 0
 
 
 def need_count(many):

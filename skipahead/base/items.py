@@ -1,6 +1,6 @@
 """Items that go down the line, and rows of outcomes."""
 
-from skipahead.base.books import need_book
+from skipahead.base.books import need_book, pairs_of
 from skipahead.base.counts import is_count
 from skipahead.base.names import is_name
 
@@ -12,12 +12,13 @@ def is_item(book, value):
     need_book(book)
     if not isinstance(value, tuple) or len(value) != 3:
         return value == MARK
-    if value[0] != "send" or value[1] not in book:
+    word, command, arguments = value
+    pairs = pairs_of(book)
+    if word != "send" or not isinstance(command, str) or command not in pairs:
         return False
-    arguments = value[2]
-    if not isinstance(arguments, tuple) or len(arguments) != book.takes(value[1]):
+    if not isinstance(arguments, tuple) or len(arguments) != pairs[command][0]:
         return False
-    return all([is_argument(argument) for argument in arguments])
+    return arguments == () or all([is_argument(argument) for argument in arguments])
 
 
 def is_items(book, value):

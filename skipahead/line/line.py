@@ -1,6 +1,6 @@
 """The line: what is sent down it, and the work that this comes to."""
 
-from skipahead.base.books import need_book, pairs_of
+from skipahead.base.books import need_book, outcomes_of, pairs_of
 from skipahead.base.counts import is_count, need_count
 from skipahead.base.items import can_stand, is_argument, is_behind, is_item, is_items, is_row
 from skipahead.base.names import is_name
@@ -137,7 +137,7 @@ def send_on(book, tape, item, outcome):
     """Sends an item down a line with this tape, and returns the answer to it."""
     need_next_item(book, tape, item)
     if tape.tries(item):
-        if outcome not in book.outcomes(item[1]):
+        if outcome not in outcomes_of(book)[item[1]]:
             raise InvalidOperation(f"not an outcome of the command {item[1]}, which is tried: {outcome!r}")
     elif outcome is not None:
         raise InvalidOperation(f"an item that is not tried has no outcome: {outcome!r}")

@@ -3,6 +3,10 @@
 from skipahead.base.items import MARK
 
 KEPT = ("kept",)
+# The answers to marks.
+MARKED = ("kept", "undone")
+# What deal the server is in behind some answers; behind the others, of commands that were done, it is open.
+MOODS = {"kept": "fresh", "undone": "fresh", "failed": "broken", "skipped": "broken"}
 
 
 class Tape:
@@ -86,36 +90,30 @@ class Tape:
     def take_back(self, many):
         """Takes back the last items and returns how many are left."""
         left = len(self.taken) - many
-        # Fewer items are looked at: those that are left, or those that are taken back.
+        said = self.said
         if left < many:
-            self.many_tried, kept = self._counted(0, left)
-            works = self.many_tried + kept
+            self._keep_first(left)
         else:
-            tried, kept = self._counted(left, left + many)
-            self.many_tried = self.many_tried - tried
-            works = len(self.entries) - tried - kept
-        del self.taken[left:]
-        del self.said[left:]
-        del self.sources[left:]
-        del self.entries[works:]
-        self.mood = mood_behind(self.said[-1]) if left > 0 else "fresh"
+            for _ in range(many):
+                self.taken.pop()
+                self.sources.pop()
+                answer = said.pop()
+                if answer == "kept":
+                    if said and said[-1] not in MARKED:
+                        self.entries.pop()
+                elif answer != "skipped" and answer != "undone":
+                    self.entries.pop()
+                    self.many_tried = self.many_tried - 1
+        self.mood = MOODS.get(said[-1], "open") if said else "fresh"
         return left
 
-    def _counted(self, begin, end):
-        """How many of these items are commands that were tried, and how many are marks of kept deals with such."""
-        tried = 0
-        kept = 0
-        for index in range(begin, end):
-            if self.taken[index] == MARK:
-                if self.said[index] == "kept" and index > 0 and self.taken[index - 1] != MARK:
-                    kept = kept + 1
-            elif self.said[index] != "skipped":
-                tried = tried + 1
-        return tried, kept
-
-
-def mood_behind(answer):
-    """What deal the server is in behind an item with this answer."""
-    if answer == "kept" or answer == "undone":
-        return "fresh"
-    return "broken" if answer == "failed" or answer == "skipped" else "open"
+    def _keep_first(self, many):
+        """Takes back all items but so many; what these came to is counted."""
+        said = self.said[:many]
+        tried = [answer for answer in said if answer not in ("kept", "undone", "skipped")]
+        kept = [one for one, answer in zip(said, said[1:]) if answer == "kept" and one not in MARKED]
+        self.many_tried = len(tried)
+        del self.entries[len(tried) + len(kept):]
+        del self.taken[many:]
+        del self.said[many:]
+        del self.sources[many:]

@@ -26,6 +26,7 @@ class Program:
         self._registers = registers_in(lines, parameters)
         # What is worked out about the program when it is asked for the first time.
         self._moves = None
+        self._plans = {}
 
     @classmethod
     def of(cls, book, lines, *, parameters=()):
