@@ -16,7 +16,7 @@ CALLED = {
     "False", "None",
 }
 BUILTIN_CALLS = {
-    "append", "clear", "copy", "count", "endswith", "extend", "find", "get", "index", "insert", "isalpha", "isascii", "isdigit", "islower", "items",
+    "append", "bit_length", "clear", "copy", "count", "endswith", "extend", "find", "get", "index", "insert", "isalpha", "isascii", "isdigit", "islower", "items",
     "join", "keys", "pop", "remove", "replace", "setdefault", "split", "startswith", "strip", "update", "values", "__init__",
 }
 BARRED = (ast.GeneratorExp, ast.Global, ast.AsyncFunctionDef, ast.AnnAssign, ast.NamedExpr, ast.SetComp, ast.Try)
@@ -167,6 +167,9 @@ class StatementsTest(unittest.TestCase):
                     found.add(node.func.value.id)
             if isinstance(node, ast.Subscript) and not isinstance(node.ctx, ast.Load) and isinstance(node.value, ast.Name):
                 found.add(node.value.id)
+            # What is passed to a function as the first argument may be changed there.
+            if isinstance(node, ast.Call) and isinstance(node.func, ast.Name) and node.func.id.startswith("keep") and node.args:
+                found |= {name.id for name in node.args[:1] if isinstance(name, ast.Name)}
         return found
 
     def test_no_two_files_import_from_each_other(self):

@@ -18,6 +18,10 @@ FUNCTIONS = {
         "first_stand", "is_stand", "thing_at", "fates", "stand_behind", "is_right", "next_item", "forced_list",
     ),
     "skipahead.ahead.waits": ("wait_paper", "is_wait_paper", "do_agree", "needs_wait"),
+    "skipahead.ahead.windows": ("reached_stands", "full_row", "least_window"),
+    "skipahead.ahead.saving": ("do_save", "least_savings", "with_outs"),
+    "skipahead.ahead.lost": ("losses", "in_doubt"),
+    "skipahead.send.making": ("made_sender", "making_cost", "slower_row"),
     "skipahead.send.senders": ("sender_behind", "is_sender"),
     "skipahead.send.judge": ("does_same", "same_paper", "is_same_paper"),
 }
@@ -58,6 +62,7 @@ CLASSES = {
         "__init__", "go", "sender", "server", "window", "line", "work", "at", "last", "unread", "state", "result", "reason", "waits",
         "progress", "held", "undo", "trial", "during", "twin", "__len__", "__eq__", "__str__",
     ),
+    ("skipahead.ahead.lost", "Careful"): ("__init__", "doubts", "twin", "__eq__", "__str__"),
     ("skipahead.send.judge", "Guard"): ("check",),
     ("skipahead.send.judge", "GuardedRun"): ("__init__", "paper", "twin"),
 }

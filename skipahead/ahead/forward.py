@@ -138,9 +138,7 @@ class Forward:
     def __eq__(self, other):
         if not isinstance(other, Forward):
             return False
-        if len(self._now.legs) != len(other._now.legs) or self._window != other._window:
-            return False
-        return self._program == other._program and self._server == other._server and self._facts == other._facts
+        return self._now.plans.bound == other._now.plans.bound and are_as_far(self, other)
 
     def __str__(self):
         return f"forward run behind {len(self._now.legs) - 1} waits, {self._now.standing()}"
@@ -154,3 +152,10 @@ def come_as_far(run, other):
     run._facts = other._facts
     run._now = other._now.copied()
     return run
+
+
+def are_as_far(run, other):
+    """Whether two forward runs of equal programs, with equal servers, windows and facts, have waited as often."""
+    if len(run._now.legs) != len(other._now.legs) or run._window != other._window:
+        return False
+    return run._program == other._program and run._server == other._server and run._facts == other._facts

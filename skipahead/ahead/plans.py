@@ -29,15 +29,15 @@ class Plans:
             if self.bound is None:
                 told = paper_behind(front, front.grow(self.most))
             else:
-                told = self._grown_with_care(front, stand[2] if len(stand) == 3 else "fresh")
+                told = self._grown_with_care(front)
             self.known[stand] = Plan(front, told)
         return self.known[stand]
 
-    def _grown_with_care(self, front, deal):
+    def _grown_with_care(self, front):
         """The paper about a front that grows up to the first mark with which too many deals would be in doubt."""
         item = front.next_forced()
         while item is not None and len(front.listed) < self.most:
-            if item == MARK and len(doubtful(deal, front.listed + [MARK])) > self.bound:
+            if item == MARK and len(doubtful(front.spots.begin[1], front.listed + [MARK])) > self.bound:
                 return ("doubt",)
             front.take_in(item)
             item = front.next_forced()

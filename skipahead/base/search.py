@@ -16,7 +16,8 @@ TRIES = "tries"
 def explored(space, first, most):
     """A dict of all keys that can be reached from the first one, and a shortest row to a fault, or None without one.
 
-    Silent steps that lead back to where they began are a fault, too. TooMany for more than so many keys.
+    Silent steps that lead back to where they began are a fault, too. TooMany for more than so many keys; if the most
+    is None, there is no limit, and the search ends with the first fault.
     """
     known = {}
     many = 0
@@ -24,7 +25,7 @@ def explored(space, first, most):
     # Each key at which something is tried, the ways on, the number of the group ahead of it and the outcome in there.
     groups = [(None, [(None, first)], 0, None)]
     number = 0
-    while number < len(groups):
+    while number < len(groups) and (fault is None or most is not None):
         start, ways, _, _ = groups[number]
         for outcome, way in ways:
             key = way if start is None else space.behind(start, outcome, way)
@@ -36,9 +37,9 @@ def explored(space, first, most):
                     if place >= begun and fault is None:
                         fault = (number, outcome)
                     break
-                many = many + 1
-                if many > most:
+                if many == most:
                     raise TooMany(most)
+                many = many + 1
                 word, told = space.step(key)
                 if word == TRIES:
                     groups.append((key, told, number, outcome))

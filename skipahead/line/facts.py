@@ -141,8 +141,13 @@ def need_like(facts, other):
 
 def need_facts(book, facts):
     """Refuses what is neither None nor facts of an equal book."""
-    if facts is not None and (not isinstance(facts, Facts) or facts._book != book):
+    if facts is not None and not are_facts(book, facts):
         raise InvalidFacts("not facts of an equal book")
+
+
+def are_facts(book, value):
+    """Whether the value is facts of an equal book."""
+    return isinstance(value, Facts) and value._book == book
 
 
 def choices_of(book, facts):

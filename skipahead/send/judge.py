@@ -16,8 +16,7 @@ MAX_SAME_STATES = 3000
 def does_same(program, sender, *, window=16, facts=None):
     """Whether a sender does the same as a program."""
     need_like(program, sender, window, facts)
-    sames = Sames(program, sender, window, facts)
-    return explored(sames, sames.first(), MAX_SAME_STATES)[1] is None
+    return unlike_row(program, sender, window, facts) is None
 
 
 def same_paper(program, sender, *, window=16, facts=None):
@@ -28,6 +27,12 @@ def same_paper(program, sender, *, window=16, facts=None):
     if row is not None:
         return "unlike", row
     return "same", by_text(sames, known)
+
+
+def unlike_row(program, sender, window, facts):
+    """A shortest row with which a sender does not do the same as a program, or None."""
+    sames = Sames(program, sender, window, facts)
+    return explored(sames, sames.first(), MAX_SAME_STATES)[1]
 
 
 def is_same_paper(program, sender, value, *, window=16, facts=None):
