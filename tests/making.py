@@ -51,6 +51,34 @@ def random_program(dice, most=10):
             return Program(book, *lines, parameters=parameters)
 
 
+def deep_line(dice, book, many, at, before):
+    """A line number at of many, behind another line: jumps ask for what the line ahead of them can answer."""
+    registers = ("p", "q", "x")
+    if at == many - 1:
+        return dice.choice((("last",), ("give", "no"), ("go", dice.randrange(many)), line_with_send(dice, book, "do", registers)))
+    kind = dice.randrange(20)
+    target = dice.randrange(at + 1) if dice.randrange(5) == 0 else min(many, at + 2 + dice.randrange(6))
+    if kind < 7 and before is not None and before[0] in ("do", "mark"):
+        names = ("kept", "undone") if before == ("mark",) else book.outcomes(before[1])
+        return ("if", dice.choice(names), target)
+    if kind < 16:
+        return line_with_send(dice, book, "do", registers)
+    return ("mark",) if kind < 19 else ("go", target)
+
+
+def deep_program(dice, most=24):
+    """A program with up to so many lines, whose runs go far and in different ways."""
+    while True:
+        book = dice.choice(BOOKS)
+        many = dice.randrange(2, most + 1)
+        lines = []
+        for at in range(many):
+            lines.append(deep_line(dice, book, many, at, lines[-1] if lines else None))
+        parameters = parameters_of(dice)
+        if is_program(book, tuple(lines), parameters=parameters):
+            return Program(book, *lines, parameters=parameters)
+
+
 def random_facts(dice, book):
     """None, or facts of a book."""
     if dice.randrange(2) == 0:

@@ -4,9 +4,9 @@ from skipahead.send.senders import Sender, is_sender
 from tests.making import random_line
 
 
-def random_sender(dice, program, most=14):
-    """A sender with the book and the parameters of a program, often much like it."""
-    lines = list(Sender.plain(program).lines)
+def random_sender(dice, program, base=None):
+    """A sender with the book and the parameters of a program, often much like it, or like another sender."""
+    lines = list((base or Sender.plain(program)).lines)
     for _ in range(dice.randrange(5)):
         at = dice.randrange(len(lines))
         kind = dice.randrange(5)
@@ -22,4 +22,4 @@ def random_sender(dice, program, most=14):
             lines.append(("read",))
     if is_sender(program.book, tuple(lines), parameters=program.parameters):
         return Sender.of(program.book, tuple(lines), parameters=program.parameters)
-    return Sender.plain(program)
+    return base or Sender.plain(program)

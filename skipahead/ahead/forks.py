@@ -84,7 +84,7 @@ class Forks:
 
 
 def views_behind(front, bits):
-    """What is seen behind the fates of a list: for each view the masks of its fates, and a spot from which it is seen."""
+    """What is seen behind the fates of a list: for each view the masks of its fates, and a spot that shows it."""
     spots = front.spots
     layer = {spots.begin: {0: True}}
     for index, item in enumerate(front.listed):

@@ -37,7 +37,7 @@ def full_row(program, *, window=16, facts=None):
         stand = stands[number]
         if found[stand].is_full():
             row = told
-        elif stand not in passed:
+        elif stand not in passed and found[stand].waits_here:
             passed[stand] = True
             rows = found[stand].rows()
             for behind in rows:
