@@ -22,6 +22,11 @@ FUNCTIONS = {
     "skipahead.ahead.saving": ("do_save", "least_savings", "with_outs"),
     "skipahead.ahead.lost": ("losses", "in_doubt"),
     "skipahead.send.making": ("made_sender", "making_cost", "slower_row"),
+    "skipahead.text.formats": (
+        "write_book", "write_program", "write_sender", "write_items", "write_row", "write_facts",
+        "read_book", "read_program", "read_sender", "read_items", "read_row", "read_facts",
+    ),
+    "skipahead.text.columns": ("columns", "run_columns"),
     "skipahead.send.senders": ("sender_behind", "is_sender"),
     "skipahead.send.judge": ("does_same", "same_paper", "is_same_paper"),
 }
@@ -63,6 +68,11 @@ CLASSES = {
         "progress", "held", "undo", "trial", "during", "twin", "__len__", "__eq__", "__str__",
     ),
     ("skipahead.ahead.lost", "Careful"): ("__init__", "doubts", "twin", "__eq__", "__str__"),
+    ("skipahead.desk.journal", "Client"): (
+        "__init__", "outbox", "tell", "__iadd__", "program", "window", "facts", "stand", "state", "result", "log", "sequence", "widen",
+        "lost", "undo", "redo", "__len__", "__getitem__", "__iter__", "__eq__", "__str__",
+    ),
+    ("skipahead.desk.desk", "Desk"): ("__init__", "__call__", "window", "facts", "names", "__getitem__", "__contains__", "__len__"),
     ("skipahead.send.judge", "Guard"): ("check",),
     ("skipahead.send.judge", "GuardedRun"): ("__init__", "paper", "twin"),
 }

@@ -56,9 +56,11 @@ class Plan:
         self._turns = {}
 
     def turn(self, answers):
-        """The stand behind the list and these answers, and what stands for each class of it."""
+        """The stand behind the list and these answers, with what is for each class of it; None if they are no fate."""
         if answers not in self._turns:
             spot = self.spots.walked(self.listed, answers)
+            if spot is None:
+                return None
             values = [] if spot[0][0] == END else list(numbers_of(spot[0][1]))
             self._turns[answers] = (stand_at(spot), values)
         return self._turns[answers]

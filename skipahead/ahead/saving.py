@@ -44,9 +44,10 @@ def with_outs(book, outs, *, facts=None):
 
 def left_without(choices, outs):
     """What is left of these outcomes of each command without the pairs of outs."""
-    return {
-        command: tuple([outcome for outcome in choices[command] if (command, outcome) not in outs]) for command in choices
-    }
+    left = {}
+    for command in choices:
+        left[command] = tuple([outcome for outcome in choices[command] if (command, outcome) not in outs])
+    return left
 
 
 def need_outs(book, outs, facts):

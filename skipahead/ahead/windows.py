@@ -82,7 +82,7 @@ class Reach:
         return self.further is not None
 
     def rows(self):
-        """For each stand behind the list the least of the shortest rows of outcomes that lead to it, with its length."""
+        """For each stand behind the list the least of the shortest rows that lead to it, with its length."""
         spots = self.front.spots
         found = {spots.begin[:2]: (0, ())}
         for index, item in enumerate(self.front.listed):

@@ -77,11 +77,10 @@ class Facts:
         return bool(self._left != outcomes_of(self._book))
 
     def __str__(self):
-        choices = outcomes_of(self._book)
-        lacking = [command for command in choices if self._left[command] != choices[command]]
-        if not lacking:
+        left = lacking(self)
+        if not left:
             return "no facts"
-        return "; ".join([told(command, self._left[command]) for command in lacking])
+        return "; ".join([told(command, left[command]) for command in left])
 
 
 def facts_with(book, left):
@@ -89,6 +88,12 @@ def facts_with(book, left):
     facts = Facts(book)
     facts._left = left
     return facts
+
+
+def lacking(facts):
+    """The outcomes that are left of each command that lacks one."""
+    choices = outcomes_of(facts._book)
+    return {command: facts._left[command] for command in choices if facts._left[command] != choices[command]}
 
 
 def checked_outcomes(book, outcomes):

@@ -1,24 +1,21 @@
 """Where a plain run is, item by item."""
 
-from skipahead.plain.moves import moves_of, put
+from skipahead.plain.moves import put
 
 
 class Course:
     """What a program has sent down a wire, and where it stood at its beginning and behind each item."""
 
-    def __init__(self, code, wire):
-        self.code = code
+    def __init__(self, moves, wire, stops):
+        self.moves = moves
         self.wire = wire
-        self.moves = moves_of(code)
         # The number of the line with the next item, and what the registers hold: a parameter, the index of an item
         # whose command was done, or None.
-        self.stops = [(self.moves.hop(-1, None), self.moves.initial)]
+        self.stops = stops
 
     def copied(self):
         """An independent course with the same items."""
-        course = Course(self.code, self.wire.copied())
-        course.stops = list(self.stops)
-        return course
+        return Course(self.moves, self.wire.copied(), list(self.stops))
 
     def standing(self):
         """Whether the run is going, paused or ended."""

@@ -23,7 +23,7 @@ class Pairs:
         self.sides = (moves_of(one), moves_of(other))
         self.many = len(one.registers)
         # What is told below 0.
-        self.names = (None,) + one.parameters
+        self.named = (None,) + one.parameters
         self.nodes = []
         self.helds = []
         self._numbers = {}
@@ -92,7 +92,7 @@ class Pairs:
 
     def _coded(self, held):
         """What registers hold, in numbers."""
-        numbers = {name: NOTHING - number for number, name in enumerate(self.names)}
+        numbers = {name: NOTHING - number for number, name in enumerate(self.named)}
         return tuple([numbers[value] if value in numbers else held.index(value) for value in held])
 
     def _told(self, held):
@@ -101,7 +101,7 @@ class Pairs:
         for value in held:
             if value >= 0 and value not in numbers:
                 numbers[value] = len(numbers)
-        return tuple([numbers[value] if value >= 0 else self.names[NOTHING - value] for value in held])
+        return tuple([numbers[value] if value >= 0 else self.named[NOTHING - value] for value in held])
 
     def _further(self):
         """The places of the registers of the second program."""

@@ -26,7 +26,9 @@ class PlainRun:
         need_source(program.book, server)
         self._program = program
         self._server = server
-        self._now = Course(program, Wire(choices_of(program.book, None), server, MAX_ITEMS))
+        moves = moves_of(program)
+        wire = Wire(choices_of(program.book, None), server, MAX_ITEMS)
+        self._now = Course(moves, wire, [(moves.hop(-1, None), moves.initial)])
 
     @property
     def program(self):

@@ -21,7 +21,7 @@ class Scribe:
 
     def __init__(self, program, found):
         self.found = found
-        self.names = program.registers
+        self.register_names = program.registers
         self.free_names = [letter for letter in LETTERS if letter not in program.registers]
         self.homes = {name: name for name in program.registers if name not in program.parameters}
         self.spares = []
@@ -86,7 +86,7 @@ class Scribe:
     def _write_leaf(self, end, places):
         """Brings the items that are still held to their homes, and goes on to the block of the next stand."""
         _, stand, values = end
-        for name, value in zip(self.names, values):
+        for name, value in zip(self.register_names, values):
             if isinstance(value, int) and value >= 0 and places[value] != self._home(name):
                 self.sheet.append(("copy", self._home(name), places[value]))
         if stand[0] == END:
@@ -108,7 +108,7 @@ class Scribe:
                 if isinstance(argument, str) and isinstance(spots.given[argument], int):
                     free[self._home(argument)] = index
         for _, _, values in ends:
-            for name, value in zip(self.names, values):
+            for name, value in zip(self.register_names, values):
                 if isinstance(value, int) and value >= 0:
                     holders.setdefault(value, {})[name] = True
                 elif isinstance(value, int):

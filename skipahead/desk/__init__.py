@@ -1,0 +1,1 @@
+"""Clients, which tell what to send, and the desk, which does commands."""

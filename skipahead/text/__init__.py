@@ -1,0 +1,1 @@
+"""Texts of values, and columns that show lines and runs."""
