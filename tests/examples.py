@@ -2,8 +2,13 @@
 
 from skipahead.ahead.forward import Forward
 from skipahead.ahead.lists import fates, first_stand
+from skipahead.ahead.lost import Careful, losses
+from skipahead.ahead.saving import least_savings
 from skipahead.ahead.waits import wait_paper
+from skipahead.ahead.windows import reached_stands
 from skipahead.base.books import Book
+from skipahead.desk.desk import Desk
+from skipahead.desk.journal import Client
 from skipahead.errors import InvalidNumber
 from skipahead.line.facts import Facts
 from skipahead.line.line import Line, sent
@@ -12,7 +17,10 @@ from skipahead.plain.alike import alike_paper
 from skipahead.plain.programs import Program
 from skipahead.plain.runs import PlainRun
 from skipahead.send.judge import Guard, same_paper
+from skipahead.send.making import made_sender
 from skipahead.send.senders import Sender, SenderRun
+from skipahead.text.columns import run_columns
+from skipahead.text.formats import write_program
 from tests.values import PLAIN
 
 BOOK = Book(look=(1, ("full", "room")), new=(0, ("ok",)), put=(2, ("ok",)))
@@ -54,6 +62,8 @@ def own_values():
         fates(ORDER, first_stand(ORDER), ()), Forward(ORDER, SERVER), Forward(CAREFUL, ("ok",)), wait_paper(ORDER, first_stand(ORDER), window=9),
         QUICK, iter(QUICK), QUICK.lines, SenderRun(QUICK, SERVER), SenderRun(QUICK, ()), same_paper(ORDER, QUICK),
         same_paper(ORDER, QUICK, window=3), Guard(),
+        reached_stands(CAREFUL), made_sender(ORDER, window=4), least_savings(ORDER, first_stand(ORDER)), losses(CAREFUL, first_stand(CAREFUL), ()),
+        Careful(LOOP, SERVER, doubts=1, window=5), Client(ORDER), Desk(BOOK), run_columns(PlainRun(ORDER, SERVER)), write_program(ORDER),
     )
 
 

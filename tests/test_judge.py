@@ -441,7 +441,7 @@ class RefusedTest(Case):
             for value in VALUES + others:
                 if not isinstance(value, Program):
                     self.refused(InvalidProgram, call, value, 5, window=0, facts=5)
-                if value != QUICK:
+                if not (isinstance(value, Sender) and value.book == BOOK and value.parameters == ("who",)):
                     self.refused(InvalidSender, call, ORDER, value, window=0, facts=5)
                 if type(value) is not int or not 1 <= value <= 16:
                     caught = self.refused(InvalidNumber, call, ORDER, QUICK, facts=5, window=value)

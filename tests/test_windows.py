@@ -102,11 +102,12 @@ class ReachedTest(Case):
         most = windows.MAX_STANDS
         try:
             windows.MAX_STANDS = 5
-            self.keeps(TooMany, "limit", 5, reached_stands, CAREFUL)
-            self.keeps(TooMany, "limit", 5, full_row, CAREFUL)
-            self.keeps(TooMany, "limit", 5, least_window, CAREFUL)
+            made = Program(BOOK, *CAREFUL.lines)
+            self.keeps(TooMany, "limit", 5, reached_stands, made)
+            self.keeps(TooMany, "limit", 5, full_row, made)
+            self.keeps(TooMany, "limit", 5, least_window, made)
             windows.MAX_STANDS = 6
-            self.same(len(reached_stands(CAREFUL)), 6)
+            self.same(len(reached_stands(made)), 6)
         finally:
             windows.MAX_STANDS = most
 

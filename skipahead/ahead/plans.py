@@ -4,7 +4,7 @@ from skipahead.ahead.lists import front_at
 from skipahead.ahead.papers import FULL, paper_behind
 from skipahead.ahead.spots import stand_at
 from skipahead.base.items import MARK
-from skipahead.line.facts import choices_of
+from skipahead.line.facts import left_by
 from skipahead.plain.moves import END
 from skipahead.plain.places import numbers_of
 
@@ -71,8 +71,7 @@ class Plan:
 
 def plans_of(program, window, facts, bound):
     """The plans of a program, which keeps them."""
-    choices = choices_of(program.book, facts)
-    key = (window, tuple([choices[command] for command in choices]), bound)
+    key = (window, left_by(program.book, facts), bound)
     if key not in program._plans:
         if len(program._plans) >= MAX_KEPT:
             program._plans = {}

@@ -8,11 +8,13 @@ from skipahead.ahead.spots import stand_at
 from skipahead.base.counts import MAX_WINDOW, need_window
 from skipahead.base.items import MARK
 from skipahead.errors import TooMany
-from skipahead.line.facts import need_facts
+from skipahead.line.facts import left_by, need_facts
 from skipahead.plain.moves import moves_of
 from skipahead.plain.programs import need_program
 
 MAX_STANDS = 3000
+# For so many windows and facts a program keeps what was worked out.
+MAX_KEPT = 4
 
 
 def reached_stands(program, *, window=16, facts=None):
@@ -104,12 +106,21 @@ def rows_with(spots, rows, item, index):
 
 
 def reaches(program, window, facts):
-    """A dict of the stands that forward runs reach, to what they send there; the first stand comes first."""
-    return reached_with(program, window, facts, {})
+    """A dict of the stands that forward runs reach, to what they send there; the first stand comes first.
+
+    The program keeps it, so it is not to be changed.
+    """
+    key = (window, left_by(program.book, facts))
+    if key not in program._reaches:
+        found = reached_with(program, window, facts, {})
+        if len(program._reaches) >= MAX_KEPT:
+            program._reaches = {}
+        program._reaches[key] = found
+    return program._reaches[key]
 
 
 def reached_with(program, window, facts, known):
-    """The same; known keeps what was worked out for lesser windows."""
+    """The same, worked out anew; known keeps what was worked out for lesser windows."""
     found = {}
     ahead = [moves_of(program).begun()]
     while ahead:

@@ -10,10 +10,14 @@ MARK = ("mark",)
 def is_item(book, value):
     """Whether the value has the form of an item of the book."""
     need_book(book)
+    return is_item_with(pairs_of(book), value)
+
+
+def is_item_with(pairs, value):
+    """Whether the value has the form of an item, where the commands of the book have these pairs."""
     if not isinstance(value, tuple) or len(value) != 3:
         return value == MARK
     word, command, arguments = value
-    pairs = pairs_of(book)
     if word != "send" or not isinstance(command, str) or command not in pairs:
         return False
     if not isinstance(arguments, tuple) or len(arguments) != pairs[command][0]:
@@ -24,7 +28,8 @@ def is_item(book, value):
 def is_items(book, value):
     """Whether the value is a tuple of items, in which each index is that of an earlier item with a command."""
     need_book(book)
-    if not isinstance(value, tuple) or not all([is_item(book, item) for item in value]):
+    pairs = pairs_of(book)
+    if not isinstance(value, tuple) or not all([is_item_with(pairs, item) for item in value]):
         return False
     return all([is_behind(item, value, at) for at, item in enumerate(value)])
 
@@ -50,4 +55,4 @@ def can_stand(argument, items, at):
 
 def is_behind(item, items, at):
     """Whether an item can stand as number at of the items."""
-    return item == MARK or all([can_stand(argument, items, at) for argument in item[2]])
+    return item == MARK or item[2] == () or all([can_stand(argument, items, at) for argument in item[2]])

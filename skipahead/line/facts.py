@@ -158,3 +158,9 @@ def are_facts(book, value):
 def choices_of(book, facts):
     """The outcomes that each command can have; None are no facts."""
     return dict(outcomes_of(book)) if facts is None else dict(facts._left)
+
+
+def left_by(book, facts):
+    """The tuple of the outcomes that each command can have; equal facts have equal ones, and None those of no facts."""
+    choices = outcomes_of(book) if facts is None else facts._left
+    return tuple([choices[command] for command in choices])

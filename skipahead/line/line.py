@@ -2,7 +2,7 @@
 
 from skipahead.base.books import need_book, outcomes_of, pairs_of
 from skipahead.base.counts import is_count, need_count
-from skipahead.base.items import can_stand, is_argument, is_behind, is_item, is_items, is_row
+from skipahead.base.items import MARK, can_stand, is_argument, is_behind, is_item, is_item_with, is_items, is_row
 from skipahead.base.names import is_name
 from skipahead.errors import InvalidItem, InvalidNumber, InvalidOperation, InvalidRow, NothingToUndo, TooMany
 from skipahead.line.tape import KEPT, Tape
@@ -129,18 +129,18 @@ def line_with(book, tape):
 
 def need_next_item(book, tape, item):
     """Refuses what cannot be sent as the next item."""
-    if not is_item(book, item) or not is_behind(item, tape.taken, len(tape.taken)):
+    if not is_item_with(pairs_of(book), item) or not is_behind(item, tape.taken, len(tape.taken)):
         raise InvalidItem(f"not an item that can be sent next: {item!r}")
 
 
 def send_on(book, tape, item, outcome):
     """Sends an item down a line with this tape, and returns the answer to it."""
     need_next_item(book, tape, item)
-    if tape.tries(item):
-        if outcome not in outcomes_of(book)[item[1]]:
-            raise InvalidOperation(f"not an outcome of the command {item[1]}, which is tried: {outcome!r}")
-    elif outcome is not None:
-        raise InvalidOperation(f"an item that is not tried has no outcome: {outcome!r}")
+    if item == MARK or tape.mood == "broken":
+        if outcome is not None:
+            raise InvalidOperation(f"an item that is not tried has no outcome: {outcome!r}")
+    elif outcome not in outcomes_of(book)[item[1]]:
+        raise InvalidOperation(f"not an outcome of the command {item[1]}, which is tried: {outcome!r}")
     if len(tape.taken) >= MAX_ITEMS:
         raise TooMany(MAX_ITEMS)
     return tape.take(item, outcome)

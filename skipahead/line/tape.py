@@ -94,7 +94,8 @@ class Tape:
         if left < many:
             self._keep_first(left)
         else:
-            for _ in range(many):
+            while many > 0:
+                many = many - 1
                 self.taken.pop()
                 self.sources.pop()
                 answer = said.pop()

@@ -27,6 +27,7 @@ class Program:
         # What is worked out about the program when it is asked for the first time.
         self._moves = None
         self._plans = {}
+        self._reaches = {}
 
     @classmethod
     def of(cls, book, lines, *, parameters=()):

@@ -18,7 +18,7 @@ ANY_LINE = 10 ** MAX_DIGITS
 def write_book(book):
     """The text of a book."""
     need_book(book)
-    return "\n".join([row_text(["command", name, str(book.takes(name)), *book.answers(name)]) for name in book.commands])
+    return "\n".join([row_text(["command", name, str(book.takes(name)), *book.answers(name)]) for name in book])
 
 
 def write_program(program):
