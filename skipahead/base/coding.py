@@ -7,6 +7,7 @@ from skipahead.errors import InvalidNumber, InvalidOperation
 
 CALLS = ("do", "send")
 ENDS = ("give", "last")
+JUMPS = ("if", "go")
 
 
 def is_common_line(value, many):
@@ -72,14 +73,22 @@ def ways_on(lines, at):
     return (at + 1,)
 
 
-def lines_on_to(lines, word):
-    """Of each line, whether all ways on from it come to a line that begins with this word, or to an end."""
+def lines_on_to(lines, words):
+    """For each word, of each line whether all ways on from it come to a line that begins with it, or to an end."""
+    if not any([line[0] in JUMPS and line[-1] <= at for at, line in enumerate(lines)]):
+        # Without a jump back all ways come to an end.
+        return [[True for _ in lines] for _ in words]
     ways = [ways_on(lines, at) for at in range(len(lines))]
-    safe = [line[0] == word for line in lines] + [True]
+    return [lines_by_ways([line[0] == word for line in lines], ways) for word in words]
+
+
+def lines_by_ways(wanted, ways):
+    """Of each line whether all of these ways on from it come to a wanted one, or to an end."""
+    safe = [*wanted, True]
     changed = True
     while changed:
         changed = False
-        for at in reversed(range(len(lines))):
+        for at in reversed(range(len(ways))):
             if not safe[at] and all([safe[way] for way in ways[at]]):
                 safe[at] = changed = True
     return safe[:-1]
@@ -152,6 +161,6 @@ def renamed_line(line, names):
 
 def shifted_line(line, places):
     """The line whose jump, if it is one, goes to the new place that is told for the number in it."""
-    if line[0] in ("if", "go"):
+    if line[0] in JUMPS:
         return line[:-1] + (places[line[-1]],)
     return line

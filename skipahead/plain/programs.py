@@ -124,7 +124,7 @@ def are_lines(book, lines, parameters):
         return False
     if len(registers_in(lines, parameters)) > MAX_REGISTERS:
         return False
-    return all(lines_on_to(lines, "do")) and all(lines_on_to(lines, "mark"))
+    return all([all(safe) for safe in lines_on_to(lines, ("do", "mark"))])
 
 
 def are_parameters(value):

@@ -122,7 +122,7 @@ class Scribe:
         """The register of an item with this last use, which these registers of the program may come to hold."""
         if use < 0 and not names:
             return None
-        choices = self.spares
+        choices = list(self.spares)
         if len(names) == 1:
             choices = [self._home(names[0])] + choices
         fitting = [register for register in choices if free.get(register, -1) <= index]

@@ -21,8 +21,8 @@ class Script:
         # The first word of each line; the end behind the last line gives the result None.
         self.words = [line[0] for line in self.code] + ["give"]
         # Whether a run could come to a line again with nothing sent, or no mark, in between.
-        sure = [lines_on_to(self.code, word) for word in SENDS]
-        self.risky = [not (one and other) for one, other in zip(sure[0], sure[1])] + [False]
+        sent, marked = lines_on_to(self.code, SENDS)
+        self.risky = [not (one and other) for one, other in zip(sent, marked)] + [False]
         self.reads = reads_from(self.code, self.risky)
 
     def quiet(self, at, last, held):

@@ -8,11 +8,11 @@ from skipahead.errors import InvalidFacts, InvalidItem, InvalidRow, ParseError
 from skipahead.line.facts import Facts, can_be_left, lacking
 from skipahead.plain.programs import MAX_PARAMETERS, Program, is_program, need_program
 from skipahead.send.senders import Sender, is_line, is_sender, need_sender
-from skipahead.text.words import MAX_DIGITS, is_number, item_from, item_text, line_from, line_text, lines_of, row_text
+from skipahead.text.words import is_number, item_from, item_text, line_from, line_text, lines_of, row_text
 
 PARAMETERS = "parameters"
 # A line of its own can jump to any line; whether this is there is asked of the whole.
-ANY_LINE = 10 ** MAX_DIGITS
+ANY_LINE = 10 ** 60
 
 
 def write_book(book):
