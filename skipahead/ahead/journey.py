@@ -65,10 +65,7 @@ class Journey:
         said = self.wire.tape.said
         begin = len(said) - leg.many
         stand, values = leg.plan.turn(tuple(said[begin:]))
-        sources = {}
-        for number, value in enumerate(values):
-            sources[number] = begin + value if value >= 0 else leg.sources[-1 - value]
-        self._send_list(stand, sources)
+        self._send_list(stand, sources_behind(values, leg.sources, begin))
 
     def _send_list(self, stand, sources):
         plan = self.plans.plan_at(stand)
@@ -82,6 +79,11 @@ class Journey:
             leg.many = leg.many + 1
         leg.depth = len(self.wire.tape.entries)
         self.legs.append(leg)
+
+
+def sources_behind(values, sources, begin):
+    """The index on the line for each class behind a list, which begins there and was sent with other sources."""
+    return {number: begin + value if value >= 0 else sources[-1 - value] for number, value in enumerate(values)}
 
 
 def on_line(item, told, sources, begin):

@@ -71,16 +71,15 @@ def is_closed(space, first, keys):
     silent = {}
     for key in known:
         word, told = space.step(key)
-        if word == FAULT or not all([behind in known for behind in behind_step(space, key)]):
+        if word == FAULT or not all([behind in known for behind in keys_behind(space, key, word, told)]):
             return False
         if word == SILENT:
             silent[key] = told
     return not has_circle(silent)
 
 
-def behind_step(space, key):
-    """The keys behind the step from a key."""
-    word, told = space.step(key)
+def keys_behind(space, key, word, told):
+    """The keys behind a step from a key."""
     if word == TRIES:
         return [space.behind(key, outcome, way) for outcome, way in told]
     return [] if told is None else [told]

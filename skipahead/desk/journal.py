@@ -1,6 +1,6 @@
 """The client's side of a forward run."""
 
-from skipahead.ahead.journey import on_line
+from skipahead.ahead.journey import on_line, sources_behind
 from skipahead.ahead.lost import all_losses, deal_at
 from skipahead.ahead.plans import plans_of
 from skipahead.base.counts import is_count, need_count, need_window
@@ -90,9 +90,7 @@ class Client:
         if turn is None:
             raise InvalidOperation("not answers that a server can give to the outbox")
         stand, values = turn
-        sources = {}
-        for number, value in enumerate(values):
-            sources[number] = page.begin + value if value >= 0 else page.sources[-1 - value]
+        sources = sources_behind(values, page.sources, page.begin)
         begin = page.begin + len(page.plan.listed)
         self._pages.append(Page(stand, sources, begin, plan_for(self, stand, self._window)))
         self._log.append(answers)

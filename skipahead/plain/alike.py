@@ -1,6 +1,6 @@
 """Programs that are alike, and papers that show whether they are."""
 
-from skipahead.base.search import are_ascending, behind_step, by_text, explored, is_closed
+from skipahead.base.search import are_ascending, by_text, explored, is_closed, keys_behind
 from skipahead.errors import InvalidProgram, InvalidStand
 from skipahead.plain.moves import END
 from skipahead.plain.pairs import Pairs
@@ -63,7 +63,9 @@ def pairs_behind(one, other, state):
     if not is_pair(one, other, state):
         raise InvalidStand("not a pair state of both programs")
     pairs = Pairs(one, other)
-    return by_text(pairs, list({key: True for key in behind_step(pairs, pairs.key_of(state))}))
+    key = pairs.key_of(state)
+    word, told = pairs.step(key)
+    return by_text(pairs, list({further: True for further in keys_behind(pairs, key, word, told)}))
 
 
 def is_pair(one, other, value):

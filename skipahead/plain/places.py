@@ -30,13 +30,18 @@ def is_work_line(program, value, deal):
 
 def is_held(program, value):
     """Whether the value tells what the registers of a program can hold, each class once."""
-    if not isinstance(value, tuple) or len(value) != len(program.registers):
+    registers = program.registers
+    if not isinstance(value, tuple) or len(value) != len(registers):
         return False
-    for name, held in zip(program.registers, value):
-        if held is not None and not is_count(held) and not (held == name and name in program.parameters):
+    classes = {}
+    for name, held in zip(registers, value):
+        if is_count(held):
+            if held in classes:
+                return False
+            classes[held] = True
+        elif held is not None and not (held == name and name in program.parameters):
             return False
-    classes = [held for held in value if is_count(held)]
-    return len({number: True for number in classes}) == len(classes)
+    return True
 
 
 def held_at(place):
