@@ -122,6 +122,18 @@ class SavingTest(Case):
             self.same(least_savings(made, stand, window=window), ((("new", "failed"),),))
         self.refused(InvalidOperation, least_savings, made, stand, window=1)
 
+    def test_ends_in_broken_deals(self):
+        # Two failures end in different ways; but what is right behind the others is right there, too.
+        made = Program(BOOK, ("do", "look", ("p",), None), ("if", "failed", 9), ("if", "full", 6), ("do", "new", (), None), ("if", "failed", 10),
+                       ("do", "put", ("p", "p"), None), ("do", "new", (), None), ("if", "failed", 10), ("give", "c"), ("give", "a"), ("give", "b"),
+                       parameters=("p",))
+        stand = first_stand(made)
+        self.same(least_savings(made, stand)[0], (("look", "failed"), ("look", "room"), ("new", "failed")))
+        self.same(least_savings(made, stand)[1:], ((("look", "full"),),))
+        self.same(least_savings(made, stand), savings_model(made, Lists(made, stand), forced_list(made, stand, window=16)))
+        self.assertIs(do_save(made, stand, (("look", "full"),)), True)
+        self.assertIs(do_save(made, stand, (("look", "room"),)), False)
+
     def test_several_pairs(self):
         wide = Book(a=(0, ("x", "y", "z")), b=(0, ("n",)))
         made = Program(wide, ("do", "a", (), None), ("if", "x", 3), ("give", "no"), ("do", "b", (), None), ("give", "no"))

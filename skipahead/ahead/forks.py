@@ -1,4 +1,4 @@
-"""The fates of a list that do not agree, and the outcomes that would have to be ruled out so that all agree."""
+"""The fates of a list that clash, and the outcomes that would have to be ruled out so that none do."""
 
 from skipahead.ahead.front import held_in
 from skipahead.ahead.papers import view_from
@@ -20,11 +20,11 @@ class Forks:
         ranked = sorted([(len(ones(mask)), mask, number) for number, masks in enumerate(views) for mask in masks])
         self.masks = [mask for _, mask, _ in ranked]
         self.everything = (1 << len(ranked)) - 1
-        # The fates that are seen alike, the ones with a pair, and with which others they do not agree.
+        # The fates that are seen alike, the ones with a pair, and with which others those seen alike clash.
         self.groups = [bits_where([number == view for _, _, view in ranked]) for number in range(len(views))]
         self.having = [bits_where([mask >> bit & 1 == 1 for mask in self.masks]) for bit in range(len(self.pairs))]
         self.against = [
-            [other for other, further in enumerate(samples) if not front.spots.agree(spot, further)] for spot in samples
+            [other for other, further in enumerate(samples) if do_clash(front.spots, spot, further)] for spot in samples
         ]
         # For each pair the answers of its command.
         self.same_command = [
@@ -32,7 +32,7 @@ class Forks:
         ]
 
     def are_saving(self, outs):
-        """Whether all fates that have no pair of outs agree."""
+        """Whether no fates clash that have no pair of outs."""
         left = self.everything
         for bit, pair in enumerate(self.pairs):
             if pair in outs:
@@ -59,7 +59,7 @@ class Forks:
             barred = barred | 1 << bit
 
     def _are_all_needed(self, outs):
-        """Whether without any one of these pairs some fates that do not agree would be left."""
+        """Whether without any one of these pairs some fates that clash would be left."""
         bits = ones(outs)
         for out in bits:
             left = self.everything
@@ -71,7 +71,7 @@ class Forks:
         return True
 
     def _clash(self, left):
-        """The pairs of two fates among those left that do not agree, or None if all agree."""
+        """The pairs of two fates among those left that clash, or None if none do."""
         for number, group in enumerate(self.groups):
             if left & group:
                 for other in self.against[number]:
@@ -112,6 +112,16 @@ def masks_with(spots, layer, bits, item, index):
         spot = (place, deal, tuple([one for one in done if one in held]))
         kept.setdefault(spot, {}).update(masks)
     return kept
+
+
+def do_clash(spots, spot, other):
+    """Whether at these spots together no item can be forced and the runs do not end alike, whatever the others are.
+
+    Two spots in broken deals may disagree, and yet an item that is the thing at some other spot is right at both.
+    """
+    if spot[1] == "broken" and other[1] == "broken":
+        return False
+    return not spots.agree(spot, other)
 
 
 def ones(number):

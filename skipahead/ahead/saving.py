@@ -71,7 +71,7 @@ def is_out(choices, value):
 
 
 def fork_at(program, stand, window, facts):
-    """The fates behind the forced list of a stand that do not agree; refuses a stand whose paper is no fork."""
+    """The fates behind the forced list of a stand that clash; refuses a stand whose paper is no fork."""
     front = front_at(program, stand, facts)
     if paper_behind(front, front.grow(window))[0] != "fork":
         raise InvalidOperation("the wait paper of the stand is no fork")
