@@ -79,6 +79,23 @@ def deep_program(dice, most=24):
             return Program(book, *lines, parameters=parameters)
 
 
+def deals_program(dice, deals=7):
+    """A program of many short deals, some of which it does again or passes over if they were undone."""
+    book = dice.choice(BOOKS)
+    lines = []
+    for _ in range(deals):
+        for _ in range(dice.choice((1, 1, 2))):
+            lines.append(line_with_send(dice, book, "do", ("p", "x")))
+        lines.append(("mark",))
+    for at in range(len(lines)):
+        if lines[at] == ("mark",) and at > 1 and dice.randrange(5) == 0 and len(lines) < 24:
+            # The jump takes the place of a command behind the mark.
+            if at + 2 < len(lines) and lines[at + 2] == ("mark",):
+                lines[at + 1] = ("if", dice.choice(("kept", "undone")), dice.choice((0, len(lines))))
+    lines = tuple(lines[:24])
+    return Program(book, *lines) if is_program(book, lines) else deals_program(dice, deals)
+
+
 def random_facts(dice, book):
     """None, or facts of a book."""
     if dice.randrange(2) == 0:
