@@ -56,7 +56,7 @@ class Plan:
         self._turns = {}
 
     def turn(self, answers):
-        """The stand behind the list and these answers, with what is for each class of it; None if they are no fate."""
+        """The stand behind the list and these answers, and what its classes stand for; None if they are no fate."""
         if answers not in self._turns:
             spot = self.spots.walked(self.listed, answers)
             if spot is None:
