@@ -5,7 +5,7 @@ import unittest
 from skipahead.ahead.forward import Forward
 from skipahead.ahead.lists import fates, first_stand, forced_list
 from skipahead.ahead.lost import losses
-from skipahead.ahead.saving import least_savings
+from skipahead.ahead.saving import do_save, least_savings
 from skipahead.ahead.windows import full_row, least_window, reached_stands
 from skipahead.base.books import Book
 from skipahead.desk.journal import Client
@@ -165,6 +165,21 @@ class LimitsTest(Timed):
         self.quick(150, lambda: making_cost(self.anew(program), window=6))
         stand = first_stand(self.wide)
         self.quick(300, lambda: least_savings(self.wide, stand))
+
+    def test_many_least_outs(self):
+        # Two tracks of six levels with the same commands, which part only at their ends.
+        book = Book(**{name: (0, ("x", "y", "z")) for name in "abcdef"})
+        lines = [("do", "a", (), None), ("if", "x", 13)]
+        for track in range(2):
+            for level, name in enumerate("bcdef"):
+                lines += [("do", name, (), None), ("if", "xyzxy"[level] if track else "yzxxz"[level], 13 - 11 * track + 2 * level + 2)]
+            lines.append(("give", "no" if track else "yes"))
+        made = Program(book, *lines)
+        found = least_savings(made, first_stand(made), window=6)
+        self.assertGreater(len(found), 60)
+        for outs in found[::9]:
+            self.assertTrue(do_save(made, first_stand(made), outs, window=6))
+        self.quick(900, lambda: least_savings(made, first_stand(made), window=6))
 
     def test_senders_that_are_made(self):
         made = Program(BOOK, *[("do", "new", (), "x"), ("do", "look", ("x",), None), ("mark",)] * 3, ("last",))
