@@ -106,4 +106,5 @@ def are_ascending(texts):
 
 def by_text(space, keys):
     """The tuple of the states with these different keys, ascending by their texts."""
-    return tuple([state for _, state in sorted([space.shown(key) for key in keys])])
+    states = {text: state for text, state in [space.shown(key) for key in keys]}
+    return tuple([states[text] for text in sorted(states)])
