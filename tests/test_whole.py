@@ -5,7 +5,7 @@ import unittest
 from skipahead.ahead.forward import Forward
 from skipahead.ahead.lists import first_stand, forced_list
 from skipahead.ahead.lost import Careful
-from skipahead.ahead.windows import least_window
+from skipahead.ahead.windows import least_window, reached_stands
 from skipahead.base.books import Book
 from skipahead.desk.journal import Client
 from skipahead.errors import TooMany
@@ -145,6 +145,41 @@ class OneWorkTest(Case):
             self.assertEqual(read_sender(joined, write_sender(Sender.plain(made))), Sender.plain(ORDER))
             self.same(forced_list(made, first_stand(made), window=9, facts=facts), forced_list(ORDER, first_stand(ORDER), window=9, facts=SURE))
             self.assertEqual(Client(made, facts=facts), Client(ORDER, facts=SURE))
+
+
+class KeptTest(Case):
+    """What a program keeps of earlier questions does not show."""
+
+    def told(self, made, window, facts, bound):
+        server = drawn_server(seeded(7), made.book, facts)
+        runs = [Forward(made, server, window=window, facts=facts), Careful(made, server, doubts=bound, window=window, facts=facts)]
+        for run in runs:
+            run.go(many=5)
+        try:
+            cost, stands = making_cost(made, window=window, facts=facts), reached_stands(made, window=window, facts=facts)
+        except TooMany:
+            cost, stands = "too many", "too many"
+        client = Client(made, window=window, facts=facts)
+        return [(run.line.sequence, run.work, run.paper, run.progress, run.result) for run in runs], cost, stands, client.outbox
+
+    def test_many_windows_and_facts(self):
+        for seed in range(6):
+            dice = seeded(seed)
+            made = deep_program(dice, 12)
+            questions = [(window, random_facts(dice, made.book), dice.randrange(1, 4)) for window in range(1, 9) for _ in range(6)]
+            for window, facts, bound in questions + dice.sample(questions, 20):
+                try:
+                    expected = self.told(Program(made.book, *made.lines, parameters=made.parameters), window, facts, bound)
+                except TooMany:
+                    self.keeps(TooMany, "limit", 3000, self.told, made, window, facts, bound)
+                    continue
+                self.same(self.told(made, window, facts, bound), expected)
+
+    def test_what_was_asked_before(self):
+        one, other = Program(BOOK, *CAREFUL.lines), Program(BOOK, *CAREFUL.lines)
+        Forward(one, ("ok", "room")).go(many=9)
+        self.assertEqual(one, other)
+        self.same((are_alike(one, other), str(one), one.lines), (True, str(other), other.lines))
 
 
 def least_or_many(program):
